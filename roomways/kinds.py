@@ -1,0 +1,22 @@
+"""Of which kind a value is."""
+
+
+def is_integer(value):
+    """Tell whether value is an integer."""
+    # A bool is an int to Python, but no integer here.
+    return isinstance(value, int) and not isinstance(value, bool)
+
+
+def is_below(value, many):
+    """Tell whether value is one of the integers from 0 to many - 1."""
+    return is_integer(value) and 0 <= value < many
+
+
+def is_tuple_of(value, many):
+    """Tell whether value is a tuple of so many items."""
+    return isinstance(value, tuple) and len(value) == many
+
+
+def is_pair_of_tuples(value):
+    """Tell whether value is a pair both items of which are tuples."""
+    return is_tuple_of(value, 2) and isinstance(value[0], tuple) and isinstance(value[1], tuple)
