@@ -4,6 +4,7 @@ import random
 import unittest
 
 from roomways.errors import WayError
+from tests import retold
 
 PARAMETERS = {
     "way_error": ("many", "value"),
@@ -15,6 +16,23 @@ PARAMETERS = {
     "users": ("house", "room"),
     "house_text": ("house",),
     "read_house": ("value",),
+    "known_names": (),
+    "known": ("name", "many"),
+    "start": ("house",),
+    "standing_error": ("house", "value"),
+    "inside": ("house", "standing"),
+    "flag": ("house", "standing", "room", "hand"),
+    "token": ("house", "standing", "room", "one", "other"),
+    "next_step": ("house", "standing", "hand"),
+    "stepped": ("house", "standing", "hand"),
+    "movers": ("house", "standing"),
+    "barred": ("house", "standing"),
+    "standing_text": ("house", "standing"),
+    "read_standing": ("house", "value"),
+    "behind": ("house", "standing", "run"),
+    "words": ("house", "standing", "run"),
+    "entered": ("house", "standing", "run"),
+    "first_double": ("house", "standing", "run"),
 }
 
 
@@ -188,3 +206,28 @@ def drawn_houses(seed, many, **told):
     """Return so many drawn houses, of every number of hands and of rooms."""
     draw = random.Random(seed)
     return [drawn_house(draw, hands=k % 5 + 1, many=k % 6 + 1, **told) for k in range(many)]
+
+
+def drawn_standing(draw, house, entering=0.7):
+    """Return a drawn standing of house, which need not come; many of its hands are at entries of doors."""
+    spots = []
+    for hand in range(len(house[1])):
+        known = retold.all_spots(house, hand)
+        at_entries = [spot for spot in known if spot[1] not in ("rest", "go")]
+        spots.append(draw.choice(at_entries if at_entries and draw.random() < entering else known))
+    return (tuple(spots), tuple((r, i, j, draw.choice((i, j))) for r, i, j in retold.pairs_even(house)))
+
+
+def drawn_run(draw, house, standing, length):
+    """Return a drawn run of at most so many hands, none of which is barred when its turn comes."""
+    run, hand = [], 0
+    for _ in range(length):
+        hands = retold.movers(house, standing)
+        if not hands:
+            break
+        # A hand that makes several steps at once gets farther into the others' ways.
+        if hand not in hands or draw.random() < 0.5:
+            hand = draw.choice(hands)
+        run.append(hand)
+        standing = retold.stepped(house, standing, hand)
+    return tuple(run)

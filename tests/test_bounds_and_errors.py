@@ -19,6 +19,11 @@ PLACES = {
     "ways": ("way_error", "held", "wish", "entries"),
     "houses": ("door_error", "house_error", "users"),
     "housetexts": ("house_text", "read_house"),
+    "knownhouses": ("known_names", "known"),
+    "standings": ("start", "standing_error", "inside", "flag", "token"),
+    "steps": ("next_step", "stepped", "movers", "barred"),
+    "standingtexts": ("standing_text", "read_standing"),
+    "runs": ("behind", "words", "entered", "first_double"),
 }
 
 
