@@ -20,3 +20,15 @@ def is_tuple_of(value, many):
 def is_pair_of_tuples(value):
     """Tell whether value is a pair both items of which are tuples."""
     return is_tuple_of(value, 2) and isinstance(value[0], tuple) and isinstance(value[1], tuple)
+
+
+def is_tuple_below(value, many):
+    """Tell whether value is a tuple of integers from 0 to many - 1."""
+    return isinstance(value, tuple) and all([is_below(item, many) for item in value])
+
+
+def is_same(value, told):
+    """Tell whether value is what is told, which is made of tuples, integers and strings, True being no 1 here."""
+    if isinstance(told, tuple):
+        return is_tuple_of(value, len(told)) and all([is_same(item, other) for item, other in zip(value, told)])
+    return not isinstance(value, bool) and value == told

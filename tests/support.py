@@ -33,6 +33,44 @@ PARAMETERS = {
     "words": ("house", "standing", "run"),
     "entered": ("house", "standing", "run"),
     "first_double": ("house", "standing", "run"),
+    "run_text": ("run",),
+    "read_run": ("value",),
+    "apart": ("house", "choice"),
+    "arcs": ("house", "choice"),
+    "comes_together": ("house", "choice"),
+    "order_of": ("house", "choice"),
+    "order_error": ("house", "choice", "value"),
+    "bar": ("house", "choice"),
+    "bar_error": ("house", "choice", "value"),
+    "meeting": ("house", "choice"),
+    "rings_to_be": ("house",),
+    "hold_rings": ("house",),
+    "bow_rings": ("house", "room"),
+    "wait_rings": ("house", "room"),
+    "events": ("house", "room", "ring"),
+    "order_of_time": ("house", "room", "ring"),
+    "time_error": ("house", "room", "ring", "value"),
+    "doors_to_be": ("house", "room"),
+    "door_rings": ("house", "room"),
+    "stuck_ring": ("house",),
+    "is_never_stuck": ("house",),
+    "stall": ("house",),
+    "stall_error": ("house", "value"),
+    "never": ("house",),
+    "never_error": ("house", "value"),
+    "tries": ("house", "room", "hand"),
+    "home_bound": ("house",),
+    "home_run": ("house", "standing", "picks"),
+    "free_doors": ("house",),
+    "chain": ("house", "hand", "place"),
+    "chain_error": ("house", "hand", "place", "value"),
+    "can_be_kept_out": ("house", "hand"),
+    "keeping": ("house", "hand", "place"),
+    "keeping_error": ("house", "hand", "place", "value"),
+    "gated": ("house", "hands"),
+    "fewest_gate": ("house",),
+    "gate_paper": ("house",),
+    "gate_error": ("house", "value"),
 }
 
 
@@ -94,6 +132,11 @@ class Case(unittest.TestCase):
     def tells(self, wanted, function, *args):
         """The call has to tell what is wanted, of the same kinds."""
         self.assertEqual(("tells", shape(wanted)), self.ask(function, *args), (function.__name__, args))
+
+    def answer(self, function, *args):
+        """The call has to tell something; return this."""
+        self.assertEqual("tells", self.ask(function, *args)[0], (function.__name__, args))
+        return function(*args)
 
     def raises(self, error, function, *args):
         """The call has to raise such an error, with these fields."""
@@ -206,6 +249,113 @@ def drawn_houses(seed, many, **told):
     """Return so many drawn houses, of every number of hands and of rooms."""
     draw = random.Random(seed)
     return [drawn_house(draw, hands=k % 5 + 1, many=k % 6 + 1, **told) for k in range(many)]
+
+
+def stay(room, through, times):
+    """Return a way that enters room, goes so often through another one, and leaves room."""
+    return (("in", room),) + (("in", through), ("out", through)) * times + (("out", room),)
+
+
+def around(room, way):
+    """Return the way, with room entered first and left last."""
+    return (("in", room),) + way + (("out", room),)
+
+
+def door_by(rows):
+    """Return the door of these rows of signs, all orders of which ascend."""
+    words = {"-": "-", "s": "stand", "b": "bow", "e": "even"}
+    hands = range(len(rows))
+    return (tuple(tuple(words[sign] for sign in row) for row in rows),
+            tuple(tuple(other for other in hands if other != hand) for hand in hands))
+
+
+def holds_house(many, rooms=2, more=False):
+    """Return a house of five hands with ten times so many rings-to-be, one more if told; room 1 is held by one alone."""
+    times = [many // 4 + (k < many % 4) for k in range(4)]
+    ways = [stay(0, 1, k) for k in times] + [stay(1, 0, 10)]
+    if more:
+        ways[2] += (("in", 2), ("in", 3), ("out", 3), ("out", 2))
+        ways[3] += (("in", 3), ("in", 2), ("out", 2), ("out", 3))
+    return ((None,) * rooms, tuple(ways))
+
+
+def door_house(one, other, third, more=False):
+    """Return a house of one door with twice the product of these many door rings-to-be, one more if told."""
+    table = ("-sbss", "b-sss", "sb-ss", "bbb-b", "bbbb-") if more else ("-sbss", "b-sss", "sb-ss", "bbb-s", "bbbb-")
+    short = (("in", 0), ("out", 0))
+    return ((door_by(table),), (short * one, short * other, short * third, short, short))
+
+
+def staying_way(draw, many, most=12):
+    """Return a drawn way by which a hand holds one room while it goes through others, and then another one."""
+    way, left = [], draw.randint(2, most)
+    while left > 1:
+        stay, through = draw.randrange(many), draw.randint(1, min(5, left - 1))
+        others = [draw.choice([room for room in range(many) if room != stay]) for _ in range(through)]
+        way += [("in", stay)] + [(word, room) for room in others for word in ("in", "out")] + [("out", stay)]
+        left -= through + 1
+    return tuple(way)
+
+
+def staying_house(draw, hands, many, most=12, doors=0.5):
+    """Return a drawn house with such ways."""
+    rooms = tuple(drawn_door(draw, hands) if draw.random() < doors else None for _ in range(many))
+    return (rooms, tuple(staying_way(draw, many, most) for _ in range(hands)))
+
+
+def small_house(draw, hands=None, many=None, steps=(2, 4, 4, 6, 8), doors=0.6):
+    """Return a drawn house with short ways, most of the doors of which do not get stuck by themselves."""
+    hands = hands or draw.randint(1, 3)
+    many = many or draw.randint(1, 4)
+    rooms = []
+    for _ in range(many):
+        room = drawn_door(draw, hands) if draw.random() < doors else None
+        if room is not None and draw.random() < 0.7:
+            room = (ranked_table(draw, hands, draw.choice((0, 0.3, 0.6))), room[1])
+        rooms.append(room)
+    return (tuple(rooms), tuple(drawn_way(draw, many, draw.choice(steps)) for _ in range(hands)))
+
+
+def ranked_table(draw, hands, evens):
+    """Return a drawn table by which some are even, and of any two others the lower one in some row bows."""
+    row = list(range(hands))
+    draw.shuffle(row)
+    table = [["-"] * hands for _ in range(hands)]
+    for one in range(hands):
+        for other in range(one):
+            words = ("stand", "bow") if row.index(one) < row.index(other) else ("bow", "stand")
+            table[one][other], table[other][one] = ("even", "even") if draw.random() < evens else words
+    return tuple(tuple(line) for line in table)
+
+
+def drawn_choice(draw, house, chosen=0.7):
+    """Return a drawn choice of house."""
+    return tuple(draw.randrange(len(way)) if draw.random() < chosen else None for way in house[1])
+
+
+def renamed(house, names):
+    """Return house with its rooms called otherwise: the room r is names[r] then."""
+    rooms = tuple(house[0][names.index(room)] for room in range(len(names)))
+    return (rooms, tuple(tuple((word, names[room]) for word, room in way) for way in house[1]))
+
+
+def drawn_names(draw, house):
+    """Return other names for the rooms of house."""
+    names = list(range(len(house[0])))
+    draw.shuffle(names)
+    return names
+
+
+def without_hand(house, hand):
+    """Return house with this hand left out, the greater ones called one less."""
+    rooms = []
+    for room in house[0]:
+        if room is not None:
+            table = [line[:hand] + line[hand + 1:] for k, line in enumerate(room[0]) if k != hand]
+            orders = [order for k, order in enumerate(room[1]) if k != hand]
+            room = (tuple(table), tuple(tuple(j - (j > hand) for j in order if j != hand) for order in orders))
+        rooms.append(room)
+    return (tuple(rooms), house[1][:hand] + house[1][hand + 1:])
 
 
 def drawn_standing(draw, house, entering=0.7):

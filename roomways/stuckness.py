@@ -1,0 +1,164 @@
+"""Whether a house can get stuck, and the ring by which it does."""
+
+from roomways.doors import bow_rings, hands_of, places_ahead, wait_rings
+from roomways.holds import mask_of
+from roomways.times import order_of_time
+from roomways.together import entered_since
+from roomways.ways import entries, held, wish
+
+
+def since_of(house, way, place):
+    """Return for each room the mask of those entered since its last entering, if it is held at place; otherwise 0."""
+    masks = [0] * len(house[0])
+    for room in held(way, place):
+        masks[room] = mask_of(sorted({other for other in entered_since(way, place, room)}))
+    return tuple(masks)
+
+
+def stands_of(house, hand):
+    """Return for each entry of hand at which it holds some room all that a ring of holds asks of it, in order."""
+    way = house[1][hand]
+    stands = []
+    for place in entries(way):
+        mask = mask_of(held(way, place))
+        if mask:
+            stands.append((hand, place, wish(way, place), mask, since_of(house, way, place)))
+    return stands
+
+
+def is_spared(stand, earlier):
+    """Tell whether the earlier stand of the same hand does for each ring of holds for which this one does."""
+    if earlier[2:4] != stand[2:4]:
+        return False
+    return all([mask | other == other for mask, other in zip(earlier[4], stand[4])])
+
+
+def needed_stands(house, hand):
+    """Return the stands of hand, in order, without those that the least ring of holds does not have."""
+    needed = []
+    for stand in stands_of(house, hand):
+        if not any([is_spared(stand, earlier) for earlier in needed]):
+            needed.append(stand)
+    return needed
+
+
+def union(masks):
+    """Return the mask of all rooms of these masks."""
+    whole = 0
+    for mask in masks:
+        whole = whole | mask
+    return whole
+
+
+def can_be_ordered(path):
+    """Tell whether the arcs among the rooms that are held by the stands of path have no ring."""
+    left = union([stand[3] for stand in path])
+    rows = [stand[4] for stand in path]
+    since = [union(masks) for masks in zip(*rows)]
+    ends = left
+    while ends:
+        ends = mask_of([room for room, mask in enumerate(since) if left >> room & 1 and not mask & left])
+        left = left - ends
+    return not left
+
+
+def may_follow(path, stand, many):
+    """Tell whether stand can be the next one of a path that is to become a ring of so many."""
+    kept = union([other[3] for other in path])
+    _, _, room, mask, _ = stand
+    if mask & kept or not mask >> path[-1][2] & 1:
+        return False
+    # Each room is held once: what is held already is wished by the last one alone.
+    if len(path) + 1 == many:
+        return path[0][3] >> room & 1 == 1
+    return not (kept | mask) >> room & 1
+
+
+def closed(stands, path, many):
+    """Return the least ring of so many stands that begins with path and comes together, None if there is none."""
+    if not can_be_ordered(path):
+        return None
+    if len(path) == many:
+        return path
+    hands = [stand[0] for stand in path]
+    for hand in range(hands[0] + 1, len(stands)):
+        for stand in stands[hand]:
+            if hand not in hands and may_follow(path, stand, many):
+                ring = closed(stands, path + (stand,), many)
+                if ring is not None:
+                    return ring
+    return None
+
+
+def least_hold_ring(house):
+    """Return the least of the shortest rings of holds, None if there is none."""
+    stands = [needed_stands(house, hand) for hand in range(len(house[1]))]
+    for many in range(2, len(stands) + 1):
+        for row in stands:
+            for stand in row:
+                ring = closed(stands, (stand,), many)
+                if ring is not None:
+                    return tuple((hand, place) for hand, place, _, _, _ in ring)
+    return None
+
+
+def fewest_places(house, room, hand):
+    """Return the pairs of a place at which hand wishes room and the mask of the rooms held there, each mask once."""
+    pairs = []
+    masks = []
+    for place in places_ahead(house, room, hand):
+        mask = mask_of(held(house[1][hand], place))
+        if mask not in masks:
+            pairs.append((place, mask))
+            masks.append(mask)
+    return pairs
+
+
+def least_apart(rows, taken):
+    """Return the least tuple of a place of each of these rows, no room held by two nor taken, None if there is none."""
+    if not rows:
+        return ()
+    for place, mask in rows[0]:
+        if not mask & taken:
+            places = least_apart(rows[1:], taken | mask)
+            if places is not None:
+                return (place,) + places
+    return None
+
+
+def apart_rings(house, room, rings):
+    """Return the least ring of pairs that is apart, ahead of room, of the hands of each of these rings that has any."""
+    rows = [fewest_places(house, room, hand) for hand in range(len(house[1]))]
+    found = []
+    for ring in rings:
+        places = least_apart([rows[hand] for hand in ring], 0)
+        if places is not None:
+            found.append(tuple(zip(ring, places)))
+    return found
+
+
+def least_door_ring(house, room, many):
+    """Return the least door ring of so many hands of room, None if there is none, house having no ring of holds."""
+    found = apart_rings(house, room, [ring for ring in bow_rings(house, room) if len(ring) == many])
+    for pairs in apart_rings(house, room, [ring for ring in wait_rings(house, room) if len(ring) == many]):
+        if order_of_time(house, room, hands_of(pairs)) is not None:
+            found.append(pairs)
+    return min(found, default=None)
+
+
+def stuck_ring(house):
+    """Return the ring of the fewest hands by which house can get stuck, None if there is none."""
+    ring = least_hold_ring(house)
+    if ring is not None:
+        return ("hold", ring)
+    for many in range(2, len(house[1]) + 1):
+        for room in range(len(house[0])):
+            ring = least_door_ring(house, room, many)
+            if ring is not None:
+                return ("door", room, ring)
+    return None
+
+
+def is_never_stuck(house):
+    """Tell whether house never gets stuck."""
+    return stuck_ring(house) is None
