@@ -32,7 +32,7 @@ class Examples(unittest.TestCase):
 
     def test_all(self):
         names = {}
-        self.assertEqual(132, len(examples()))
+        self.assertEqual(204, len(examples()))
         for asked, answer in examples():
             if not answer:
                 exec(asked, names)
