@@ -197,12 +197,6 @@ def come_up(course, room, hand):
         course.step(hand)
 
 
-def try_anew(course, room, hand):
-    """Let hand, which waits ahead of the door of room, raise its flag and come to the first look of a new try."""
-    course.step(hand)
-    come_up(course, room, hand)
-
-
 def go_home(course, hand):
     """Let hand go its way until it rests."""
     course.step(hand)
@@ -212,14 +206,9 @@ def go_home(course, hand):
 
 def bow_along(course, room, row, mover):
     """Let each hand of row, which wait ahead of room, bow to the one behind it, the last one to mover, and mover go."""
-    if row:
-        try_anew(course, room, row[0])
-    for hand, behind in zip(row, row[1:]):
-        try_anew(course, room, behind)
+    for hand, behind in zip(row, row[1:] + [mover]):
+        come_up(course, room, behind)
         course.step_till_low(hand)
-    if row:
-        come_up(course, room, mover)
-        course.step_till_low(row[-1])
     go_home(course, mover)
 
 
@@ -231,9 +220,7 @@ def keeping_by(house, links, mover):
     step_till_all_barred(course, [hand for hand, _ in links if hand not in row])
     if house[0][room] is None:
         row = []
-    for number in reversed(range(len(row))):
-        bow_along(course, room, row[number:], mover)
-    # Behind one time round the tokens are where they will be each time.
+    # Behind the first time all of row are low, and the tokens are where they will be each time.
     bow_along(course, room, row, mover)
     many = len(course.run)
     bow_along(course, room, row, mover)

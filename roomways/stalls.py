@@ -58,32 +58,31 @@ def bow_to_each_other(course, room, hands):
     step_to_look(course, room, other, one)
 
 
-def bow_round(course, room, hands):
-    """Let each of three hands or more bow to its next one, from where the first one looks at its next one."""
+def bow_round(course, hands):
+    """Let each of three hands or more bow to its next one, which raises its flag, from where the first one has."""
     for hand in hands:
-        behind = next_one(hands, hand)
-        course.step(behind)
+        course.step(next_one(hands, hand))
         course.step_till_low(hand)
         ahead = hands[hands.index(hand) - 1]
         if course.spot(ahead)[1] == "low":
             course.step(ahead)
-        step_to_look(course, room, behind, next_one(hands, behind))
 
 
 def bow_stall(house, room, ring):
     """Return a stall by a door ring the hands of which are a bow ring."""
     course = course_to(house, choice_of(house, ring))
     hands = hands_of(ring)
-    step_to_look(course, room, hands[0], hands[1])
     if len(hands) == 2:
+        step_to_look(course, room, hands[0], hands[1])
         step_to_look(course, room, hands[1], hands[0])
         many = len(course.run)
         bow_to_each_other(course, room, hands)
     else:
+        course.step(hands[0])
         # Behind the first time round one of them is low, and the tokens are where they will be each time.
-        bow_round(course, room, hands)
+        bow_round(course, hands)
         many = len(course.run)
-        bow_round(course, room, hands)
+        bow_round(course, hands)
     return (tuple(course.run[:many]), tuple(course.run[many:]))
 
 

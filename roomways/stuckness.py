@@ -1,71 +1,32 @@
 """Whether a house can get stuck, and the ring by which it does."""
 
 from roomways.doors import bow_rings, hands_of, places_ahead, wait_rings
-from roomways.holds import mask_of
+from roomways.holds import mask_of, wishes_of
 from roomways.times import order_of_time
-from roomways.together import entered_since
-from roomways.ways import entries, held, wish
-
-
-def since_of(house, way, place):
-    """Return for each room the mask of those entered since its last entering, if it is held at place; otherwise 0."""
-    masks = [0] * len(house[0])
-    for room in held(way, place):
-        masks[room] = mask_of(sorted({other for other in entered_since(way, place, room)}))
-    return tuple(masks)
+from roomways.ways import held
 
 
 def stands_of(house, hand):
-    """Return for each entry of hand at which it holds some room all that a ring of holds asks of it, in order."""
-    way = house[1][hand]
+    """Return for each entry of hand at which it holds some room itself, its place, the room wished, the mask held."""
     stands = []
-    for place in entries(way):
-        mask = mask_of(held(way, place))
-        if mask:
-            stands.append((hand, place, wish(way, place), mask, since_of(house, way, place)))
+    known = []
+    for place, room, mask in wishes_of(house[1][hand]):
+        # Where hand wishes and holds the same as at a lesser place it is in no least ring.
+        if mask and (room, mask) not in known:
+            stands.append((hand, place, room, mask))
+            known.append((room, mask))
     return stands
 
 
-def is_spared(stand, earlier):
-    """Tell whether the earlier stand of the same hand does for each ring of holds for which this one does."""
-    if earlier[2:4] != stand[2:4]:
-        return False
-    return all([mask | other == other for mask, other in zip(earlier[4], stand[4])])
-
-
-def needed_stands(house, hand):
-    """Return the stands of hand, in order, without those that the least ring of holds does not have."""
-    needed = []
-    for stand in stands_of(house, hand):
-        if not any([is_spared(stand, earlier) for earlier in needed]):
-            needed.append(stand)
-    return needed
-
-
-def union(masks):
-    """Return the mask of all rooms of these masks."""
-    whole = 0
-    for mask in masks:
-        whole = whole | mask
-    return whole
-
-
-def can_be_ordered(path):
-    """Tell whether the arcs among the rooms that are held by the stands of path have no ring."""
-    left = union([stand[3] for stand in path])
-    rows = [stand[4] for stand in path]
-    since = [union(masks) for masks in zip(*rows)]
-    ends = left
-    while ends:
-        ends = mask_of([room for room, mask in enumerate(since) if left >> room & 1 and not mask & left])
-        left = left - ends
-    return not left
+def kept_by(path):
+    """Return the mask of all rooms that are held by these stands, which are apart."""
+    return sum([mask for _, _, _, mask in path])
 
 
 def may_follow(path, stand, many):
-    """Tell whether stand can be the next one of a path that is to become a ring of so many."""
-    kept = union([other[3] for other in path])
-    _, _, room, mask, _ = stand
+    """Tell whether stand can be the next one of a path that is to become a ring of so many, which is apart."""
+    _, _, room, mask = stand
+    kept = kept_by(path)
     if mask & kept or not mask >> path[-1][2] & 1:
         return False
     # Each room is held once: what is held already is wished by the last one alone.
@@ -75,9 +36,7 @@ def may_follow(path, stand, many):
 
 
 def closed(stands, path, many):
-    """Return the least ring of so many stands that begins with path and comes together, None if there is none."""
-    if not can_be_ordered(path):
-        return None
+    """Return the least ring-to-be of so many stands that begins with path and is apart, None if there is none."""
     if len(path) == many:
         return path
     hands = [stand[0] for stand in path]
@@ -92,13 +51,15 @@ def closed(stands, path, many):
 
 def least_hold_ring(house):
     """Return the least of the shortest rings of holds, None if there is none."""
-    stands = [needed_stands(house, hand) for hand in range(len(house[1]))]
+    stands = [stands_of(house, hand) for hand in range(len(house[1]))]
+    # If the least of the shortest ones that are apart did not come together, there would be a ring of holds of some
+    # of its hands, each at a lesser place: so it does.
     for many in range(2, len(stands) + 1):
         for row in stands:
             for stand in row:
                 ring = closed(stands, (stand,), many)
                 if ring is not None:
-                    return tuple((hand, place) for hand, place, _, _, _ in ring)
+                    return tuple((hand, place) for hand, place, _, _ in ring)
     return None
 
 

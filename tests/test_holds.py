@@ -89,6 +89,14 @@ class Holds(Case):
         ways = tuple(around(2, way) for way in (stay(0, 1, 10),) * 3 + (stay(1, 0, 10),) * 2)
         self.raises(TooMany(400), hold_rings, ((None,) * 3, ways))
 
+    def test_many_rows_that_lead_nowhere_are_no_rings(self):
+        for rooms in ((0, 1, 2, 3, 4, 5), (1, 2, 3, 4, 0, 5), (5, 4, 3, 2, 1, 0)):
+            ways = tuple(stay(rooms[k], rooms[k + 1], 11) for k in range(4)) + ((("in", rooms[5]), ("out", rooms[5])),)
+            for function in (rings_to_be, hold_rings):
+                self.tells((), function, ((None,) * 6, ways))
+            ways = ways[:4] + (stay(rooms[4], rooms[5], 11),)
+            self.tells((), rings_to_be, ((None,) * 6, ways))
+
     def test_drawn_houses(self):
         some = 0
         for house in drawn(21, 150):

@@ -1,5 +1,6 @@
 """Whether houses get stuck: E2, and what E5 says of it."""
 
+import itertools
 import random
 import time
 import unittest
@@ -54,6 +55,16 @@ class Stuckness(Case):
         self.tells(("hold", ((3, 1), (4, 1))), stuck_ring, ((None,) * 5, ways))
         self.tells(("hold", ((0, 1), (1, 1), (2, 1))), stuck_ring, ((None,) * 5, ways[:4]))
         self.tells(("hold", ((0, 1), (2, 1))), stuck_ring, ((None, None), (ONCE, ONCE, BACK, BACK)))
+
+    def test_tables_the_rooms_of_which_are_called_otherwise(self):
+        for many in (3, 4, 5):
+            for names in itertools.permutations(range(many)):
+                house = renamed(known("table", many), list(names))
+                self.assertEqual(("hold", tuple((k, 1) for k in range(many))), stuck_ring(house))
+            for hands in list(itertools.permutations(range(many)))[::7]:
+                ways = tuple(known("table", many)[1][hand] for hand in hands)
+                self.check(((None,) * 6, ways))
+                self.check(((None,) * 6, tuple(around(5, way) if way[0] == ("in", 0) else way for way in ways)))
 
     def test_holds_come_ahead_of_doors(self):
         ways = known("table", 3)[1]
