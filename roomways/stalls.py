@@ -59,7 +59,7 @@ def bow_to_each_other(course, room, hands):
 
 
 def bow_round(course, hands):
-    """Let each of three hands or more bow to its next one, which raises its flag, from where the first one has."""
+    """Let each of three hands or more, one behind another, bow to its next one, which raises its flag ahead of that."""
     for hand in hands:
         course.step(next_one(hands, hand))
         course.step_till_low(hand)
@@ -78,7 +78,6 @@ def bow_stall(house, room, ring):
         many = len(course.run)
         bow_to_each_other(course, room, hands)
     else:
-        course.step(hands[0])
         # Behind the first time round one of them is low, and the tokens are where they will be each time.
         bow_round(course, hands)
         many = len(course.run)

@@ -24,6 +24,17 @@ PLACES = {
     "steps": ("next_step", "stepped", "movers", "barred"),
     "standingtexts": ("standing_text", "read_standing"),
     "runs": ("behind", "words", "entered", "first_double"),
+    "runtexts": ("run_text", "read_run"),
+    "together": ("apart", "arcs", "comes_together", "order_of", "order_error", "bar", "bar_error", "meeting"),
+    "holds": ("rings_to_be", "hold_rings"),
+    "doors": ("bow_rings", "wait_rings", "doors_to_be", "door_rings"),
+    "times": ("events", "order_of_time", "time_error"),
+    "stuckness": ("stuck_ring", "is_never_stuck"),
+    "stalls": ("stall", "stall_error"),
+    "nevers": ("never", "never_error"),
+    "homes": ("tries", "home_bound", "home_run"),
+    "keepouts": ("free_doors", "chain", "chain_error", "can_be_kept_out", "keeping", "keeping_error"),
+    "gates": ("gated", "fewest_gate", "gate_paper", "gate_error"),
 }
 
 
