@@ -27,6 +27,11 @@ def is_tuple_below(value, many):
     return isinstance(value, tuple) and all([is_below(item, many) for item in value])
 
 
+def is_ring_below(value, many):
+    """Tell whether value is a tuple of two integers or more from 0 to many - 1, each once."""
+    return is_tuple_below(value, many) and len(value) > 1 and len(set(value)) == len(value)
+
+
 def is_same(value, told):
     """Tell whether value is what is told, which is made of tuples, integers and strings, True being no 1 here."""
     if isinstance(told, tuple):

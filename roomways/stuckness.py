@@ -6,11 +6,14 @@ from roomways.times import order_of_time
 from roomways.ways import held
 
 
-def stands_of(house, hand):
-    """Return for each entry of hand at which it holds some room itself, its place, the room wished, the mask held."""
+def stands_among(hand, wishes):
+    """Return the stands of hand: it, and where it holds some room itself, a place, the room wished, the mask held.
+
+    These are told by wishes, in order; spots of programs serve as well as places.
+    """
     stands = []
     known = []
-    for place, room, mask in wishes_of(house[1][hand]):
+    for place, room, mask in wishes:
         # Where hand wishes and holds the same as at a lesser place it is in no least ring.
         if mask and (room, mask) not in known:
             stands.append((hand, place, room, mask))
@@ -49,18 +52,25 @@ def closed(stands, path, many):
     return None
 
 
-def least_hold_ring(house):
-    """Return the least of the shortest rings of holds, None if there is none."""
-    stands = [stands_of(house, hand) for hand in range(len(house[1]))]
-    # If the least of the shortest ones that are apart did not come together, there would be a ring of holds of some
-    # of its hands, each at a lesser place: so it does.
+def least_ring(stands):
+    """Return the least of the shortest rings-to-be of these rows of stands that are apart, None if there is none."""
     for many in range(2, len(stands) + 1):
         for row in stands:
             for stand in row:
                 ring = closed(stands, (stand,), many)
                 if ring is not None:
-                    return tuple((hand, place) for hand, place, _, _ in ring)
+                    return ring
     return None
+
+
+def least_hold_ring(house):
+    """Return the least of the shortest rings of holds, None if there is none."""
+    ring = least_ring([stands_among(hand, wishes_of(way)) for hand, way in enumerate(house[1])])
+    if ring is None:
+        return None
+    # If the least of the shortest ones that are apart did not come together, there would be a ring of holds of some
+    # of its hands, each at a lesser place: so it does.
+    return tuple((hand, place) for hand, place, _, _ in ring)
 
 
 def fewest_places(house, room, hand):

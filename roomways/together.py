@@ -1,7 +1,7 @@
 """Places at which several hands can be at one and the same time, and how they come there."""
 
 from roomways.errors import Unfit
-from roomways.kinds import is_below, is_tuple_below, is_tuple_of
+from roomways.kinds import is_below, is_ring_below, is_tuple_below, is_tuple_of
 from roomways.standings import start
 from roomways.steps import next_step, stepped
 from roomways.ways import held
@@ -66,18 +66,26 @@ def arcs(house, choice):
     return tuple(sorted(pairs))
 
 
-def put_in_order(house, choice):
-    """Return the kept rooms that can be put in order, in one, and those that are left as arcs lead to all of them."""
-    pairs = arcs(house, choice)
-    row = []
-    left = list(kept_rooms(house, choice))
+def put_in_layers(pairs, rooms):
+    """Return these rooms in layers, the pairs leading to each from earlier ones alone, and those that are left.
+
+    To each of those that are left a pair leads from one of them.
+    """
+    layers = []
+    left = list(rooms)
     free = left
     while free:
         led = [other for room, other in pairs if room in left]
         free = [room for room in left if room not in led]
-        row = row + free
+        layers.append(free)
         left = [room for room in left if room in led]
-    return row, left
+    return layers, left
+
+
+def put_in_order(house, choice):
+    """Return the kept rooms that can be put in order, in one, and those that are left as arcs lead to all of them."""
+    layers, left = put_in_layers(arcs(house, choice), kept_rooms(house, choice))
+    return [room for layer in layers for room in layer], left
 
 
 def order_of(house, choice):
@@ -115,12 +123,12 @@ def order_error(house, choice, value):
 
 
 def ring_within(pairs, left):
-    """Return a ring of arcs among these rooms, to each of which an arc leads from another one of them."""
+    """Return a ring of pairs among these rooms, to each of which a pair leads from another one of them."""
     row = [left[0]]
     while True:
         ahead = min([room for room, other in pairs if other == row[-1] and room in left])
         if ahead in row:
-            # The row was gone against the arcs.
+            # The row was gone against the pairs.
             return tuple(reversed(row[row.index(ahead):]))
         row.append(ahead)
 
@@ -145,10 +153,7 @@ def is_shared_form(house, value):
 
 def is_ring_form(house, value):
     """Tell whether value has the form of a bar that is a ring of rooms."""
-    if not is_tuple_of(value, 2) or value[0] != "ring" or not is_tuple_below(value[1], len(house[0])):
-        return False
-    rooms = value[1]
-    return len(rooms) > 1 and all([room not in rooms[:place] for place, room in enumerate(rooms)])
+    return is_tuple_of(value, 2) and value[0] == "ring" and is_ring_below(value[1], len(house[0]))
 
 
 def bar_error(house, choice, value):

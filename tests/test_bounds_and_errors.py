@@ -35,6 +35,15 @@ PLACES = {
     "homes": ("tries", "home_bound", "home_run"),
     "keepouts": ("free_doors", "chain", "chain_error", "can_be_kept_out", "keeping", "keeping_error"),
     "gates": ("gated", "fewest_gate", "gate_paper", "gate_error"),
+    "numbers": ("numbers", "numbers_error", "room_round", "round_error"),
+    "programs": ("program_error", "ways_of"),
+    "programtexts": ("program_text", "read_program"),
+    "histories": ("spots", "held_at", "histories", "way_by", "apart_by", "stuck_ways"),
+    "supplies": ("supply_ring", "supply_ring_error", "fewest_hands", "supply_house"),
+    "alls": ("standings_of", "nearest"),
+    "looks": ("together_by_all", "stuck_by_all", "kept_by_all", "longest_by_all"),
+    "officelogs": ("log_text", "read_log", "office_behind"),
+    "verdicts": ("verdict", "verdict_error"),
 }
 
 

@@ -32,7 +32,7 @@ class Examples(unittest.TestCase):
 
     def test_all(self):
         names = {}
-        self.assertEqual(204, len(examples()))
+        self.assertEqual(315, len(examples()))
         for asked, answer in examples():
             if not answer:
                 exec(asked, names)

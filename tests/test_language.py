@@ -21,7 +21,7 @@ BUILTINS = (
 METHODS = (
     "append clear copy count endswith extend find get index insert isalnum isalpha isdigit islower isspace isupper "
     "items join keys ljust lower lstrip partition pop remove replace reverse rfind rjust rpartition rsplit rstrip "
-    "setdefault split splitlines startswith strip update upper values zfill"
+    "setdefault split splitlines startswith strip update upper values zfill bit_length"
 ).split()
 KEPT = ("range", "zip", "enumerate", "reversed")
 BARRED = (ast.AsyncFunctionDef, ast.AsyncFor, ast.AsyncWith, ast.Await, ast.Div)
@@ -109,7 +109,7 @@ class Language(unittest.TestCase):
         for name, text in files():
             for bound in bound_names(text):
                 self.assertNotIn(bound, dir(builtins), name)
-                self.assertTrue(not bound.startswith("__") or bound == "__init__", (name, bound))
+                self.assertTrue(not bound.startswith("__") or bound in ("__init__", "__eq__", "__ne__"), (name, bound))
             for node in nodes(text, ast.Name):
                 if isinstance(node.ctx, ast.Load):
                     self.assertNotEqual("_", node.id, name)
@@ -137,6 +137,39 @@ class Language(unittest.TestCase):
             for node in nodes(text, ast.Call):
                 if isinstance(node.func, ast.Attribute):
                     self.assertIn(node.func.attr, METHODS + own, name)
+
+    def test_lists_for_what_compares(self):
+        # Offices compare: so any, all and their kin take lists, and nothing is sorted in place.
+        for name, text in files():
+            for node in nodes(text, ast.Call):
+                if isinstance(node.func, ast.Name) and node.func.id in ("any", "all", "min", "max", "sum", "sorted"):
+                    self.assertFalse([one for one in node.args if isinstance(one, ast.GeneratorExp)], (name, node.lineno))
+                self.assertNotEqual("sort", getattr(node.func, "attr", None), name)
+
+    def test_sets(self):
+        for name, text in files():
+            sets = nodes(text, ast.Set, ast.SetComp)
+            sets += [node for node in nodes(text, ast.Call) if ast.unparse(node.func) == "set"]
+            measured = [node.args[0] for node in nodes(text, ast.Call) if ast.unparse(node.func) in ("len", "sorted")]
+            self.assertEqual([], [ast.unparse(node) for node in sets
+                                  if ast.dump(node) not in [ast.dump(one) for one in measured]], name)
+
+    def test_handlers(self):
+        own = [node.name for node in nodes(dict(files())["errors"], ast.ClassDef)]
+        for name, text in files():
+            for node in nodes(text, ast.ExceptHandler):
+                self.assertIn(ast.unparse(node.type), own, name)
+            for node in nodes(text, ast.Raise):
+                self.assertIsInstance(node.exc, ast.Call, name)
+                self.assertIn(ast.unparse(node.exc.func), own, name)
+
+    def test_names_of_functions(self):
+        for name, text in files():
+            functions = [node.name for node in nodes(text, ast.FunctionDef)]
+            classes = [node.name for node in nodes(text, ast.ClassDef)]
+            bound = [node.id for node in nodes(text, ast.Name) if isinstance(node.ctx, ast.Store)]
+            bound += [node.arg for node in nodes(text, ast.arg)]
+            self.assertEqual([], [one for one in bound if one in functions + classes], name)
 
     def test_kept_ranges(self):
         for name, text in files():
