@@ -293,7 +293,8 @@ class Shell:
         ring = retold_rings.stuck_ring(self.house)
         if ring is None:
             return "never"
-        return " ".join([ring[0]] + [str(room) for room in ring[1:-1]] + [f"{hand} {place}" for hand, place in ring[-1]])
+        return " ".join([ring[0]] + [str(room) for room in ring[1:-1]] + [f"{hand} {place}" for hand,
+                                                                          place in ring[-1]])
 
     def say_bound(self):
         return str(retold_stalls.home_bound(self.house))

@@ -78,7 +78,8 @@ def wrong_parts(many, program, at=(), around=()):
         if len(around) > 5:
             yield spot, "deep"
             continue
-        inners = [(spot, part[-1])] if part[0] != "either" else [(spot + (k,), inner) for k, inner in enumerate(part[1])]
+        inners = [(spot, part[-1])] if part[0] != "either" else [(spot + (k,), inner) for k,
+                                                                 inner in enumerate(part[1])]
         for begin, inner in inners:
             yield from wrong_parts(many, inner, begin, around + (part[:2] if part[0] == "in" else (part[0],),))
 

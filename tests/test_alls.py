@@ -11,8 +11,8 @@ from roomways.runs import behind, first_double
 from roomways.standings import inside, standing_error, start
 from tests import retold
 from tests.goingthrough import Through, TooWide
-from tests.support import (Case, door_by, drawn_door, drawn_house, drawn_names, drawn_standing, drawn_way, parts, renamed,
-                           small_house)
+from tests.support import (Case, door_by, drawn_door, drawn_house, drawn_names, drawn_standing, drawn_way, parts,
+                           renamed, small_house)
 
 SHORT = (("in", 0), ("out", 0))
 ONCE = (("in", 0), ("in", 1), ("out", 1), ("out", 0))
@@ -23,12 +23,12 @@ OVER = ((("-", "stand"), ("bow", "-")), ((1,), (0,)))
 NESTED = ((EVEN, OVER), (ONCE, ONCE))
 # The texts of houses, and how many standings come.
 AS_MANY = (
-    ("plain\nplain\ndoor -sbs s-bb ss-b ssb- 123 203 013 210\nplain\nplain\nway +2 +1 +3 -3 -1 -2\nway +3 +0 +2 -2 -0 -3\n"
-     "way +3 +1 -1 -3 +3 +1 -1 -3\nway +0 -0 +4 -4 +4 +1 +2 -2 -1 -4", 3999),
+    ("plain\nplain\ndoor -sbs s-bb ss-b ssb- 123 203 013 210\nplain\nplain\nway +2 +1 +3 -3 -1 -2\n"
+     "way +3 +0 +2 -2 -0 -3\nway +3 +1 -1 -3 +3 +1 -1 -3\nway +0 -0 +4 -4 +4 +1 +2 -2 -1 -4", 3999),
     ("door -ebs e-bs bs-s ssb- 231 302 031 012\nplain\nplain\nplain\nway +2 -2 +3 +1 -1 -3 +1 -1 +1 -1 +3 -3\n"
      "way +0 +3 +1 -1 -3 +3 +1 -1 -3 -0\nway +3 +1 +0 -0 +0 +2 -2 -0 -1 -3\nway +2 -2", 4000),
-    ("plain\nplain\ndoor -ese e-es be-b ebb- 231 032 301 201\nplain\nplain\nway +1 +0 -0 +4 -4 -1\nway +2 +0 +4 -4 -0 -2\n"
-     "way +4 -4 +1 +2 +4 +3 +0 -0 -3 -4 -2 -1\nway +1 +0 -0 -1 +0 +3 -3 -0", 4001),
+    ("plain\nplain\ndoor -ese e-es be-b ebb- 231 032 301 201\nplain\nplain\nway +1 +0 -0 +4 -4 -1\n"
+     "way +2 +0 +4 -4 -0 -2\nway +4 -4 +1 +2 +4 +3 +0 -0 -3 -4 -2 -1\nway +1 +0 -0 -1 +0 +3 -3 -0", 4001),
     ("door -bs b-s bs- 12 02 10\nplain\nway +1 +0 -0 +0 -0 +0 -0 +0 -0 +0 -0 +0 -0 -1 +0 -0\n"
      "way +1 +0 -0 -1 +0 +1 -1 +1 -1 +1 -1 +1 -1 +1 -1 -0\nway +1 -1 +1 -1 +0 +1 -1 +1 -1 -0", 4002),
 )
@@ -61,12 +61,13 @@ def drawn(seed, many):
 class StandingsOf(Case):
     def test_known_houses(self):
         for name, many, wanted in (
-                ("table", 2, 19), ("table", 3, 87), ("table", 4, 391), ("table", 5, 1743), ("row", 2, 16), ("row", 3, 44),
-                ("ranked", 2, 23), ("ranked", 3, 257), ("level", 2, 34), ("level", 3, 755), ("meek", 2, 35),
-                ("proud", 2, 15)):
+                ("table", 2, 19), ("table", 3, 87), ("table", 4, 391), ("table", 5, 1743), ("row", 2, 16),
+                ("row", 3, 44), ("ranked", 2, 23), ("ranked", 3, 257), ("level", 2, 34), ("level", 3, 755),
+                ("meek", 2, 35), ("proud", 2, 15)):
             self.assertEqual(wanted, len(self.answer(standings_of, known(name, many))))
         self.assertEqual(58, len(standings_of(NESTED)))
-        self.tells((((((0, "go", 0),), ()), (((0, "rest", 0),), ()), (((1, "go", 0),), ()))), standings_of, ((None,), (SHORT,)))
+        self.tells((((((0, "go", 0),), ()), (((0, "rest", 0),), ()), (((1, "go", 0),), ()))), standings_of,
+                   ((None,), (SHORT,)))
 
     def test_against_a_going_through(self):
         for house, through in drawn(261, 70):

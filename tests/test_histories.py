@@ -59,8 +59,8 @@ class Spots(Case):
                 self.agrees(told.held_at, held_at, program, spot)
 
     def test_no_spots(self):
-        values = list(STRANGE) + [(0, 0), (0, 0, 0), (0, 0, 1), (0, 0, 1, 0), (0, 2), (1,), [0, 1], (0, True), (False, 1),
-                                  (0, 1, 0), (-1,), (0, -1), "0", (0, 0, 0, 0, 0), (0, "1"), ((0,),), ()]
+        values = list(STRANGE) + [(0, 0), (0, 0, 0), (0, 0, 1), (0, 0, 1, 0), (0, 2), (1,), [0, 1], (0, True),
+                                  (False, 1), (0, 1, 0), (-1,), (0, -1), "0", (0, 0, 0, 0, 0), (0, "1"), ((0,),), ()]
         for value in values:
             if not (type(value) is tuple and retold.among(value, told.spots(CHOOSING))):
                 self.raises(Unfit(), held_at, CHOOSING, value)
@@ -94,7 +94,8 @@ class Histories(Case):
                 self.check_ways(program, spot)
 
     def test_less_ones_push_out_greater_ones(self):
-        program = told.read_program("in 0 (either (in 1; in 2) or (in 1) or (in 3; in 1); either (in 4) or (in 1); in 5)")
+        program = told.read_program(
+            "in 0 (either (in 1; in 2) or (in 1) or (in 3; in 1); either (in 4) or (in 1); in 5)")
         self.tells((((1,),),), histories, program, (0, 2))
         program = told.read_program("in 0 (either (in 1) or (in 2); either (in 1) or (in 2); in 3 (in 4))")
         self.tells((((1,),), ((2,),)), histories, program, (0, 2))
@@ -309,7 +310,8 @@ class StuckWays(Case):
 
     def test_rings_of_many(self):
         for many in (3, 4, 5):
-            programs = tuple(told.read_program(f"again (in {k} (either (in {(k + 1) % many}) or ()))") for k in range(many))
+            texts = [f"again (in {k} (either (in {(k + 1) % many}) or ()))" for k in range(many)]
+            programs = tuple(map(told.read_program, texts))
             self.assertTrue(self.check(many, programs))
             for k in range(many):
                 self.assertFalse(self.check(many, programs[:k] + programs[k + 1:]))
@@ -333,7 +335,9 @@ class StuckWays(Case):
         several = []
         for _ in range(300):
             many = draw.randint(2, 6)
-            programs = tuple(told.drawn_program(draw, many, draw.randint(2, 7)) for _ in range(draw.choice((2, 2, 3, 3, 4))))
+            programs = tuple(told.drawn_program(draw, many, draw.randint(2,
+                                                                         7)) for _ in range(draw.choice((2, 2, 3, 3,
+                                                                                                         4))))
             several.append(self.check(many, programs))
         self.assertGreater(several.count(True), 60)
         self.assertGreater(several.count(False), 60)
@@ -346,7 +350,8 @@ class StuckWays(Case):
             programs = tuple(few_ins(draw, many, 4, 6) for _ in range(draw.choice((2, 2, 3))))
             ways = [sorted({told.plain(row) for row in told.rows_by(program, 2 * len(told.spots(program)) + 2) if row})
                     for program in programs]
-            stuck = any(rings.stuck_ring(((None,) * many, row)) for row in itertools.islice(itertools.product(*ways), 1500))
+            stuck = any(rings.stuck_ring(((None,) * many, row)) for row in itertools.islice(itertools.product(*ways),
+                                                                                            1500))
             if not stuck and len(list(itertools.islice(itertools.product(*ways), 1501))) > 1500:
                 continue
             self.assertEqual(stuck, self.check(many, programs), programs)
@@ -377,7 +382,8 @@ class StuckWays(Case):
     def test_great_programs(self):
         draw = random.Random(243)
         began = time.time()
-        texts = ["in {0} (either (in {1}) or (in {2}); either (in {3}) or (in {4}); either (in {5}) or (in {1}); in {2})",
+        texts = ["in {0} (either (in {1}) or (in {2}); either (in {3}) or (in {4}); "
+                 "either (in {5}) or (in {1}); in {2})",
                  "in {0} (in {1}; in {2}; in {3}; in {4}; in {5}; in {1}; in {2}; in {3}; in {4}; in {5}; in {1})",
                  "again (in {0} (in {1} (in {2} (in {3} (in {4})))); again (in {5}); in {2} (in {4}); in {1} (in {3}))"]
         for text in texts:
@@ -387,13 +393,13 @@ class StuckWays(Case):
                 for choice in (tuple(told.spots(program)[-1] for program in programs), drawn_choice(draw, programs)):
                     self.answer(apart_by, programs, choice)
         # Each holds one room and has chosen among the others'; none of the many histories goes with the others'.
-        row = [told.read_program(f"in {k} (either (in {(k + 1) % 5}) or (in {(k + 2) % 5}); either (in {(k + 3) % 5}) or "
-                                 f"(in {(k + 4) % 5}); either (in {(k + 2) % 5}) or (in {(k + 4) % 5}); in 5)") for k in range(5)]
-        self.assertIsNone(self.answer(apart_by, tuple(row), ((0, 3),) * 5))
-        self.answer(stuck_ways, 6, tuple(row))
-        ascending = tuple(told.read_program("in 0 (in 1; in 2); in 1 (in 2; in 3); in 2 (in 3; in 4); in 3 (in 4; in 5)")
-                          for _ in range(5))
-        self.assertIsNone(self.answer(stuck_ways, 6, ascending))
+        text = ("in {0} (either (in {1}) or (in {2}); either (in {3}) or (in {4}); either (in {2}) or (in {4}); "
+                "in 5)")
+        row = tuple(told.read_program(text.format(*[(k + j) % 5 for j in range(5)])) for k in range(5))
+        self.assertIsNone(self.answer(apart_by, row, ((0, 3),) * 5))
+        self.answer(stuck_ways, 6, row)
+        ascending = told.read_program("in 0 (in 1; in 2); in 1 (in 2; in 3); in 2 (in 3; in 4); in 3 (in 4; in 5)")
+        self.assertIsNone(self.answer(stuck_ways, 6, (ascending,) * 5))
         self.assertLess(time.time() - began, 20)
 
     def test_the_told_places_come_together(self):

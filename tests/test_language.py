@@ -143,7 +143,8 @@ class Language(unittest.TestCase):
         for name, text in files():
             for node in nodes(text, ast.Call):
                 if isinstance(node.func, ast.Name) and node.func.id in ("any", "all", "min", "max", "sum", "sorted"):
-                    self.assertFalse([one for one in node.args if isinstance(one, ast.GeneratorExp)], (name, node.lineno))
+                    self.assertFalse([one for one in node.args if isinstance(one, ast.GeneratorExp)],
+                                     (name, node.lineno))
                 self.assertNotEqual("sort", getattr(node.func, "attr", None), name)
 
     def test_sets(self):

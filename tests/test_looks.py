@@ -94,8 +94,9 @@ class KeptByAll(Case):
     def test_no_entries(self):
         wide = known("level", 4)
         for house in (CROSSED, wide):
-            for hand, place in ((0, 2), (True, 0), (False, 0), (2, 0) if house == CROSSED else (4, 0), (-1, 0), (0, True),
-                                (0, False), (0, -1), (0, 4), (None, 0), (0, None), ("0", 0), ((0,), 0), ([0], [0])):
+            for hand, place in ((0, 2), (True, 0), (False, 0), (2, 0) if house == CROSSED else (4, 0), (-1, 0),
+                                (0, True), (0, False), (0, -1), (0, 4), (None, 0), (0, None), ("0", 0), ((0,), 0),
+                                ([0], [0])):
                 self.raises(Unfit(), kept_by_all, house, hand, place)
         for value in STRANGE:
             if not (retold.integer(value) and value in (0, 1)):
@@ -129,8 +130,9 @@ class LongestByAll(Case):
         level, ranked, meek, proud = [known(name, 2) for name in ("level", "ranked", "meek", "proud")]
         look, rest = (0, "look", 0), (0, "rest", 0)
         for house, standing, wanted in (
-                (level, start(level), 0), (level, ((GO, GO), ((0, 0, 1, 0),)), 8), (NESTED, ((GO, GO), ((0, 0, 1, 0),)), 14),
-                (ranked, ((GO, GO), ()), 10), (ranked, ((look, (0, "yield", 0)), ()), 7), (CROSSED, ((GO, GO), ()), 8),
+                (level, start(level), 0), (level, ((GO, GO), ((0, 0, 1, 0),)), 8),
+                (NESTED, ((GO, GO), ((0, 0, 1, 0),)), 14), (ranked, ((GO, GO), ()), 10),
+                (ranked, ((look, (0, "yield", 0)), ()), 7), (CROSSED, ((GO, GO), ()), 8),
                 (meek, ((look, look), ()), None), (meek, ((look, rest), ()), 2), (proud, ((look, look), ()), 0),
                 (((None,), (SHORT * 12,)), ((GO,), ()), 24)):
             self.tells(wanted, longest_by_all, house, standing)
@@ -193,7 +195,8 @@ class LongestByAll(Case):
     def test_just_as_many_and_one_more(self):
         # From a place on each hand of a room of its own has as many places as steps left, and the rest: a product.
         ways = tuple((("in", k), ("out", k)) * 12 for k in range(3))
-        for places, many, wanted in (((9, 0, 15), 4000, 15 + 24 + 9), ((9, 0, 14), 4400, None), ((24 - 4, 24 - 24, 1), 3000, 51)):
+        for places, many, wanted in (((9, 0, 15), 4000, 15 + 24 + 9), ((9, 0, 14), 4400, None),
+                                     ((24 - 4, 24 - 24, 1), 3000, 51)):
             self.assertEqual(many, (25 - places[0]) * (25 - places[1]) * (25 - places[2]))
             self.check_many(many, wanted, ((None,) * 3, ways), (tuple((place, "go", 0) for place in places), ()))
         house = read_house(

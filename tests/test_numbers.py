@@ -116,11 +116,12 @@ class NumbersErrors(Case):
     def test_each_word(self):
         deep = ((None,) * 3, (SHORT, (("in", 0), ("in", 1), ("in", 2), ("out", 2), ("out", 1), ("out", 0))))
         for house, value, wanted in (
-                (ROW, (0, 1), None), (ROW, (1, 0), ("step", 0, 1)), (ROW, (0, 0), ("step", 0, 1)), (ROW, (0, 2), "form"),
-                (ROW, [0, 1], "form"), (ROW, (0, True), "form"), (ROW, (False, 1), "form"), (ROW, (0,), "form"),
-                (ROW, (0, 1, 1), "form"), (ROW, (), "form"), (ROW, (-1, 0), "form"), (CROSSED, (0, 1), ("step", 1, 1)),
-                (CROSSED, (1, 0), ("step", 0, 1)), (deep, (0, 1, 2), None), (deep, (0, 2, 1), ("step", 1, 2)),
-                (deep, (1, 0, 2), ("step", 1, 1)), (deep, (2, 2, 2), ("step", 1, 1)), (deep, (1, 2, 1), ("step", 1, 2)),
+                (ROW, (0, 1), None), (ROW, (1, 0), ("step", 0, 1)), (ROW, (0, 0), ("step", 0, 1)),
+                (ROW, (0, 2), "form"), (ROW, [0, 1], "form"), (ROW, (0, True), "form"), (ROW, (False, 1), "form"),
+                (ROW, (0,), "form"), (ROW, (0, 1, 1), "form"), (ROW, (), "form"), (ROW, (-1, 0), "form"),
+                (CROSSED, (0, 1), ("step", 1, 1)), (CROSSED, (1, 0), ("step", 0, 1)), (deep, (0, 1, 2), None),
+                (deep, (0, 2, 1), ("step", 1, 2)), (deep, (1, 0, 2), ("step", 1, 1)),
+                (deep, (2, 2, 2), ("step", 1, 1)), (deep, (1, 2, 1), ("step", 1, 2)),
                 (((None,) * 2, (SHORT,)), (1, 1), None), (((None,), (SHORT,)), (0,), None),
                 (((None,), (SHORT,)), (1,), "form")):
             self.tells(wanted, numbers_error, house, value)
@@ -148,11 +149,11 @@ class RoundErrors(Case):
     def test_each_word(self):
         for house, value, wanted in (
                 (CROSSED, (0, 1), None), (CROSSED, (1, 0), None), (CROSSED, (0,), "form"), (CROSSED, (0, 0), "form"),
-                (CROSSED, (0, 2), "form"), (CROSSED, [0, 1], "form"), (CROSSED, (), "form"), (CROSSED, (0, 1, 0), "form"),
-                (CROSSED, (0, True), "form"), (CROSSED, (False, 1), "form"), (ROW, (0, 1), ("pair", 0)),
-                (ROW, (1, 0), ("pair", 1)), (TABLE, (0, 1, 2), None), (TABLE, (1, 2, 0), None),
-                (TABLE, (0, 2, 1), ("pair", 0)), (TABLE, (0, 1), ("pair", 0)), (TABLE, (1, 0), ("pair", 1)),
-                (((None,), (SHORT,)), (0,), "form")):
+                (CROSSED, (0, 2), "form"), (CROSSED, [0, 1], "form"), (CROSSED, (), "form"),
+                (CROSSED, (0, 1, 0), "form"), (CROSSED, (0, True), "form"), (CROSSED, (False, 1), "form"),
+                (ROW, (0, 1), ("pair", 0)), (ROW, (1, 0), ("pair", 1)), (TABLE, (0, 1, 2), None),
+                (TABLE, (1, 2, 0), None), (TABLE, (0, 2, 1), ("pair", 0)), (TABLE, (0, 1), ("pair", 0)),
+                (TABLE, (1, 0), ("pair", 1)), (((None,), (SHORT,)), (0,), "form")):
             self.tells(wanted, round_error, house, value)
             self.assertEqual(wanted, told.round_error(house, value))
 

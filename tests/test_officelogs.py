@@ -11,8 +11,8 @@ from roomways.officelogs import log_text, office_behind, read_log
 from roomways.offices import Office
 from tests import retold
 from tests import retold_offices as told
-from tests.support import (STRANGE, Case, drawn_door, drawn_house, drawn_way, outcome, parts, rebuilt, shape, small_house,
-                           variants)
+from tests.support import (STRANGE, Case, drawn_door, drawn_house, drawn_way, outcome, parts, rebuilt, shape,
+                           small_house, variants)
 from tests.test_offices import BACK, CROSSED, EVEN, LONE, NESTED, ONCE, OVER, SHORT, drawn_edit, state
 
 SIGNS = "0159 +-.\nsbegoblendwy~A"
@@ -54,31 +54,33 @@ class LogTexts(Case):
     def test_line_feeds(self):
         self.tells((("go", 0), ("go", 1)), read_log, "go 0\ngo 1")
         self.tells((("go", 0), ("go", 1)), read_log, "go 0\ngo 1\n")
-        for text, place in (("go 0\n\n", 1), ("\n", 0), ("\n\n", 0), ("\ngo 0", 0), ("go 0\n\ngo 1", 1), ("go 0\ngo 1\n\n\n", 2),
-                            (" ", 0), ("go 0\n ", 1)):
+        for text, place in (("go 0\n\n", 1), ("\n", 0), ("\n\n", 0), ("\ngo 0", 0), ("go 0\n\ngo 1", 1),
+                            ("go 0\ngo 1\n\n\n", 2), (" ", 0), ("go 0\n ", 1)):
             self.raises(BadText(place), read_log, text)
 
     def test_sixty(self):
         self.tells((("go", 0),) * 60, read_log, "go 0\n" * 60)
         self.tells((("go", 0),) * 60, read_log, ("go 0\n" * 60)[:-1])
         self.both("go 3\n" * 60, (("go", 3),) * 60)
-        for text, place in (("go 0\n" * 61, 60), (("go 0\n" * 61)[:-1], 60), ("go 0\n" * 60 + "\n", 60), ("go 0\n" * 60 + "x", 60),
-                            ("go 0\n" * 59 + "go 5\ngo 0\n", 59), ("go 0\n" * 4000, 60), ("go 0\n" * 70 + "x", 60)):
+        for text, place in (("go 0\n" * 61, 60), (("go 0\n" * 61)[:-1], 60), ("go 0\n" * 60 + "\n", 60),
+                            ("go 0\n" * 60 + "x", 60), ("go 0\n" * 59 + "go 5\ngo 0\n", 59), ("go 0\n" * 4000, 60),
+                            ("go 0\n" * 70 + "x", 60)):
             self.raises(BadText(place), read_log, text)
 
     def test_no_edits(self):
-        for line in ("go", "go ", "go 5", "go 9", "go 10", "go 00", "go -1", "go x", "go 0 ", " go 0", "go  0", "Go 0", "GO 0",
-                     "undo", "build", "build ", "build 0", "build 0 ", "build 6 plain", "build 0 plain ", "build 0  plain",
-                     "build 0 Plain", "build 00 plain", "build 10 plain", "build plain", "build 0 way +0 -0", "build 0 +0 -0",
-                     "build 0 door", "build 0 door -e b- 1 0", "build 0 door -s b- 1", "build 0 door -s b- 0 1",
-                     "build 0 door -s b- 1 0 ", "build 0 door -s b- 1 1", "build 0 door - 0", "build 0 door -- -- 1 0",
-                     "build 0 door s- -b 1 0", "build 0 door -s b- 1 00", "build 0 door -x b- 1 0",
-                     "build 0 door " + " ".join(["-sssss", "s-ssss", "ss-sss", "sss-ss", "ssss-s", "sssss-", "12345", "02345",
-                                                 "01345", "01245", "01235", "01234"]),
-                     "lead", "lead 0", "lead 0 ", "lead 5 +0 -0", "lead 0 +0", "lead 0 +0 -0 ", "lead 0  +0 -0", "lead 0 +0  -0",
-                     "lead 0 +0 -1", "lead 0 -0 +0", "lead 0 +6 -6", "lead 0 +0 +0 -0 -0", "lead 0 +0 -0 +1", "lead 0 0 0",
-                     "lead 0 way +0 -0", "lead 00 +0 -0", "lead 0 +0,-0", "lead 0 +00 -00", "lead 0" + " +0 -0" * 13,
-                     "go 0\r", "leap 0 +0 -0", "0", "plain", "way +0 -0"):
+        for line in ("go", "go ", "go 5", "go 9", "go 10", "go 00", "go -1", "go x", "go 0 ", " go 0", "go  0", "Go 0",
+                     "GO 0", "undo", "build", "build ", "build 0", "build 0 ", "build 6 plain", "build 0 plain ",
+                     "build 0  plain", "build 0 Plain", "build 00 plain", "build 10 plain", "build plain",
+                     "build 0 way +0 -0", "build 0 +0 -0", "build 0 door", "build 0 door -e b- 1 0",
+                     "build 0 door -s b- 1", "build 0 door -s b- 0 1", "build 0 door -s b- 1 0 ",
+                     "build 0 door -s b- 1 1", "build 0 door - 0", "build 0 door -- -- 1 0", "build 0 door s- -b 1 0",
+                     "build 0 door -s b- 1 00", "build 0 door -x b- 1 0",
+                     "build 0 door " + " ".join(["-sssss", "s-ssss", "ss-sss", "sss-ss", "ssss-s", "sssss-", "12345",
+                                                 "02345", "01345", "01245", "01235", "01234"]),
+                     "lead", "lead 0", "lead 0 ", "lead 5 +0 -0", "lead 0 +0", "lead 0 +0 -0 ", "lead 0  +0 -0",
+                     "lead 0 +0  -0", "lead 0 +0 -1", "lead 0 -0 +0", "lead 0 +6 -6", "lead 0 +0 +0 -0 -0",
+                     "lead 0 +0 -0 +1", "lead 0 0 0", "lead 0 way +0 -0", "lead 00 +0 -0", "lead 0 +0,-0",
+                     "lead 0 +00 -00", "lead 0" + " +0 -0" * 13, "go 0\r", "leap 0 +0 -0", "0", "plain", "way +0 -0"):
             self.raises(BadText(0), read_log, line)
             self.raises(BadText(2), read_log, "go 0\ngo 1\n" + line + "\ngo 2\n")
             self.raises(BadText(1), read_log, "build 0 plain\n" + line + "\nnothing")
@@ -109,7 +111,8 @@ class LogTexts(Case):
             at = draw.randrange(len(text))
             rows = [text[:k] + text[k + 1:] for k in range(len(text))][:60]
             rows += [text[:k] + text[k] + text[k:] for k in range(len(text))][-60:]
-            rows += [text[:at] + sign + text[at:] for sign in SIGNS] + [text[:at] + sign + text[at + 1:] for sign in SIGNS]
+            rows += [text[:at] + sign + text[at:] for sign in SIGNS]
+            rows += [text[:at] + sign + text[at + 1:] for sign in SIGNS]
             for row in rows + [text.upper(), text + "\n", text[:-1], text + "go 0"]:
                 self.agrees(told.read_log, read_log, row)
                 right += outcome(read_log, row)[0] == "tells"
@@ -161,9 +164,10 @@ class OfficeBehind(Case):
     def test_no_edits(self):
         for item in (None, (), ("go",), ("go", 0, 0), ["go", 0], ("build", 0), ("build", 0, None, None), ("lead", 0),
                      ("lead", 0, ONCE, 1), ("undo",), ("undo", 0), ("Go", 0), ("twin", 0), ("inside",), (("go",), 0),
-                     ("go", 2), ("go", True), ("go", None), ("build", 2, None), ("build", False, None), ("build", 0, EVEN[0]),
-                     ("lead", 2, ONCE), ("lead", 0, list(ONCE)), ("lead", 0, ONCE[:2]), "go", 0, {"go": 0}, (None, 0),
-                     ("__init__", CROSSED), ("keep", 0), ("go", [0]), ([], {}), ("check", True), ("take", 0)):
+                     ("go", 2), ("go", True), ("go", None), ("build", 2, None), ("build", False, None),
+                     ("build", 0, EVEN[0]), ("lead", 2, ONCE), ("lead", 0, list(ONCE)), ("lead", 0, ONCE[:2]), "go", 0,
+                     {"go": 0}, (None, 0), ("__init__", CROSSED), ("keep", 0), ("go", [0]), ([], {}), ("check", True),
+                     ("take", 0)):
             self.refused(BadLog(0), CROSSED, (item,))
             self.refused(BadLog(5), CROSSED, (("go", 0),) * 5 + (item, None, ("go", 9)))
         self.refused(BadLog(1), CROSSED, (("go", 1), ("build", 0, None)))

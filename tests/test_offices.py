@@ -72,7 +72,8 @@ class Making(Case):
     def test_ordinary(self):
         for house in (CROSSED, NESTED, known("meek", 5), LONE):
             for office in (Office(house), Office(house=rebuilt(house))):
-                self.assertEqual(shape((house, house, start(house), (), 0, tuple(() for _ in house[0]), (), ())), state(office))
+                self.assertEqual(shape((house, house, start(house), (), 0, tuple(() for _ in house[0]), (), ())),
+                                 state(office))
 
     def test_no_houses(self):
         for house in (CROSSED, NESTED):
@@ -129,8 +130,8 @@ class Going(OfficeCase):
         pair = self.both(LONE)
         self.go_all(pair, (0,) * 60)
         rest = pair[0].standing
-        for word, *args in (("go", 0), ("go", 5), ("go", None), ("build", 0, None), ("build", None, None), ("lead", 0, SHORT),
-                            ("lead", 7, None), ("lead", [], {})):
+        for word, *args in (("go", 0), ("go", 5), ("go", None), ("build", 0, None), ("build", None, None),
+                            ("lead", 0, SHORT), ("lead", 7, None), ("lead", [], {})):
             self.refuses(TooMany(60), pair, word, *args)
         self.assertEqual(rest, pair[0].standing)
         self.does(59, pair, "undo")
@@ -187,15 +188,17 @@ class Building(OfficeCase):
         for room in (2, -1, True, False, None, "0", (), [0], 6, 10 ** 30):
             self.refuses(Refused("room"), pair, "build", room, "no door")
             self.refuses(Refused("hand"), pair, "lead", room, "no way")
-        for door, error in ((EVEN[0], ("room", 0, ("row", 0))), (list(EVEN), ("room", 0, "form")), ("plain", ("room", 0, "form")),
-                            (known("meek", 3)[0][0], ("room", 0, "rows")), (False, ("room", 0, "form")),
-                            ((EVEN[0], ((1,), (1,))), ("room", 0, ("order", 1)))):
+        for door, error in ((EVEN[0], ("room", 0, ("row", 0))), (list(EVEN), ("room", 0, "form")),
+                            ("plain", ("room", 0, "form")), (known("meek", 3)[0][0], ("room", 0, "rows")),
+                            (False, ("room", 0, "form")), ((EVEN[0], ((1,), (1,))), ("room", 0, ("order", 1)))):
             self.refuses(BadHouse(error), pair, "build", 0, door)
-        for way, error in ((ONCE[:2], "held"), (list(ONCE), "form"), (None, "form"), ((("in", 2), ("out", 2)), ("step", 0)),
-                           ((("in", True), ("out", True)), ("step", 0)), (SHORT * 13, "form"), (ONCE[1:], ("out", 2))):
+        for way, error in ((ONCE[:2], "held"), (list(ONCE), "form"), (None, "form"),
+                           ((("in", 2), ("out", 2)), ("step", 0)), ((("in", True), ("out", True)), ("step", 0)),
+                           (SHORT * 13, "form"), (ONCE[1:], ("out", 2))):
             self.refuses(BadHouse(("way", 1, error)), pair, "lead", 1, way)
         self.go_all(pair, (0,))
-        for word, *args in (("build", 0, None), ("build", 9, "x"), ("lead", 0, ONCE), ("lead", None, None), ("build", 0, EVEN)):
+        for word, *args in (("build", 0, None), ("build", 9, "x"), ("lead", 0, ONCE), ("lead", None, None),
+                            ("build", 0, EVEN)):
             self.refuses(Refused("busy"), pair, word, *args)
         self.go_all(pair, (0, 0, 0))
         self.refuses(Refused("busy"), pair, "lead", 9, ONCE)
@@ -357,7 +360,8 @@ def drawn_edit(draw, office):
         return ("undo",)
     if chance < 0.1:
         return draw.choice((("go", draw.choice((hands, -1, True, None))), ("build", many, None), ("lead", hands, SHORT),
-                            ("build", 0, draw.choice((0, "door", ((), ())))), ("lead", 0, draw.choice(((), SHORT[:1], None)))))
+                            ("build", 0, draw.choice((0, "door", ((), ())))),
+                            ("lead", 0, draw.choice(((), SHORT[:1], None)))))
     resting = all(word == "rest" for _, word, _ in standing[0])
     if chance < 0.12 or resting and chance < 0.45:
         if draw.random() < 0.5:

@@ -54,11 +54,12 @@ class ProgramErrors(Case):
 
     def test_parts(self):
         for part in (None, "in", (), ("in",), ("in", 0), ("in", 0, (), ()), ("in", 3, ()), ("in", -1, ()),
-                     ("in", True, ()), ("in", False, ()), ("in", "0", ()), ("in", 0, []), ("in", 0, None), ["in", 0, ()],
-                     ("out", 0, ()), ("IN", 0, ()), ("either", ()), ("either", ((),)), ("either", (lone(0),)),
-                     ("either", (lone(0),) * 5), ("either", [lone(0), ()]), ("either", (lone(0), [])),
-                     ("either", (lone(0), None)), ("either", lone(0), ()), ("again", ()), ("again", []),
-                     ("again", None), ("again", lone(0), ()), ("again",), (None, lone(0)), (("again",), lone(0))):
+                     ("in", True, ()), ("in", False, ()), ("in", "0", ()), ("in", 0, []), ("in", 0, None),
+                     ["in", 0, ()], ("out", 0, ()), ("IN", 0, ()), ("either", ()), ("either", ((),)),
+                     ("either", (lone(0),)), ("either", (lone(0),) * 5), ("either", [lone(0), ()]),
+                     ("either", (lone(0), [])), ("either", (lone(0), None)), ("either", lone(0), ()), ("again", ()),
+                     ("again", []), ("again", None), ("again", lone(0), ()), ("again",), (None, lone(0)),
+                     (("again",), lone(0))):
             self.check(("part", (0,)), 3, (part,))
             self.check(("part", (1,)), 3, lone(0) + (part,))
             self.check(("part", (0, 0)), 3, (("in", 1, (part,)),))
@@ -164,10 +165,11 @@ class Ways(Case):
         self.raises(TooMany(400), ways_of, two, 16)
         for many, text, most in (
                 (400, "in 5 (again (in 3 (again (either (in 1; in 2) or (in 0) or (in 4) or (in 1)))); in 4)", 14),
-                (399, "either (in 4; again (in 4 (either (again (in 2; in 5)) or () or (in 3 (in 5; in 5))))) or ()", 24),
+                (399, "either (in 4; again (in 4 (either (again (in 2; in 5)) or () or (in 3 (in 5; in 5))))) or ()",
+                 24),
                 (401, "in 0 (in 4 (again (in 3 (again (in 5); either () or (in 2) or () or (in 2; in 1); in 5))))", 24),
-                (402, "again (in 5); again (again (either () or () or (either () or (again (in 4; in 5; in 5); in 0))))",
-                 24)):
+                (402, "again (in 5); again (again (either () or () or "
+                      "(either () or (again (in 4; in 5; in 5); in 0))))", 24)):
             program = told.read_program(text)
             self.assertEqual(many, len({told.plain(row) for row in told.rows_by(program, most) if row}))
             self.agrees(told.ways_of, ways_of, program, most)

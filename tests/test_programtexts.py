@@ -34,16 +34,17 @@ class ProgramTexts(Case):
         self.both("; ".join(["in 3"] * 12), (("in", 3, ()),) * 12)
 
     def test_no_programs(self):
-        for text in ("", "()", "in", "in ", "in 6", "in 9", "in 10", "in 00", "in 01", "in -1", "in x", "in 0 ", " in 0",
-                     "in  0", "in 0 ()", "in 0()", "in 0(in 1)", "in 0 (in 0)", "in 0 (in 1", "in 0 in 1)", "in 0 in 1",
-                     "in 0 ((in 1))", "in 0 (in 1))", "In 0", "in 0;in 1", "in 0 ; in 1", "in 0; ", "; in 0", "in 0;",
-                     "in 0; ; in 1", "in 0\n", "in 0\nin 1", "again", "again ", "again ()", "again in 0", "again (in 0",
-                     "again(in 0)", "again  (in 0)", "again (in 0) ", "again (in 0; )", "either", "either (in 0)",
-                     "either () or ()", "either (in 0) or", "either (in 0) or ", "either (in 0) or in 1",
-                     "either (in 0)  or ()", "either (in 0) or () or () or () or ()", "either (in 0)or ()",
-                     "either (in 0) or (); ", "either in 0 or ()", "either (in 0) and ()", "or (in 0)", "(in 0)",
-                     "; ".join(["in 3"] * 13), "again (again (again (again (again (again (in 0))))))",
-                     "in 0 (either (in 1) or (in 0))", "in 0 (again (in 1; in 0))", "in 0 (in 1) (in 2)", "out 0"):
+        for text in ("", "()", "in", "in ", "in 6", "in 9", "in 10", "in 00", "in 01", "in -1", "in x", "in 0 ",
+                     " in 0", "in  0", "in 0 ()", "in 0()", "in 0(in 1)", "in 0 (in 0)", "in 0 (in 1", "in 0 in 1)",
+                     "in 0 in 1", "in 0 ((in 1))", "in 0 (in 1))", "In 0", "in 0;in 1", "in 0 ; in 1", "in 0; ",
+                     "; in 0", "in 0;", "in 0; ; in 1", "in 0\n", "in 0\nin 1", "again", "again ", "again ()",
+                     "again in 0", "again (in 0", "again(in 0)", "again  (in 0)", "again (in 0) ", "again (in 0; )",
+                     "either", "either (in 0)", "either () or ()", "either (in 0) or", "either (in 0) or ",
+                     "either (in 0) or in 1", "either (in 0)  or ()", "either (in 0) or () or () or () or ()",
+                     "either (in 0)or ()", "either (in 0) or (); ", "either in 0 or ()", "either (in 0) and ()",
+                     "or (in 0)", "(in 0)", "; ".join(["in 3"] * 13),
+                     "again (again (again (again (again (again (in 0))))))", "in 0 (either (in 1) or (in 0))",
+                     "in 0 (again (in 1; in 0))", "in 0 (in 1) (in 2)", "out 0"):
             self.raises(BadText(0), read_program, text)
 
     def test_strange_values(self):
@@ -68,8 +69,10 @@ class ProgramTexts(Case):
             rows = [text[:k] + text[k + 1:] for k in range(len(text))]
             rows += [text[:k] + text[k] + text[k:] for k in range(len(text))]
             rows += [text[:k] + text[k + 1:k + 2] + text[k:k + 1] + text[k + 2:] for k in range(len(text))]
-            rows += [text[:at] + sign + text[at:] for sign in SIGNS] + [text[:at] + sign + text[at + 1:] for sign in SIGNS]
-            rows += [text[:at] + " " + text[at:], text + ")", "(" + text + ")", text[:at], text[at:], text + "; " + text]
+            rows += [text[:at] + sign + text[at:] for sign in SIGNS]
+            rows += [text[:at] + sign + text[at + 1:] for sign in SIGNS]
+            rows += [text[:at] + " " + text[at:], text + ")", "(" + text + ")", text[:at], text[at:],
+                     text + "; " + text]
             for row in rows:
                 self.agrees(told.read_program, read_program, row)
                 right += self.ask(read_program, row)[0] == "tells"
@@ -81,8 +84,9 @@ class ProgramTexts(Case):
             for begin, end in (("again (", ")"), ("either (", ")"), ("either () or (", ")"), ("in 0 (", ")")):
                 self.raises(BadText(0), read_program, begin * many + "in 1" + end * many)
                 self.raises(BadText(0), read_program, begin * many)
-        for text in ("(" * 20000, ")" * 20000, "in 0; " * 3333, "in 0; " * 3333 + "in", "either " + "() or " * 3000 + "()",
-                     "in " + "0" * 19000, "in " + "9" * 19000, " " * 20000, "either (" + "in 1; " * 3000 + "in 1) or ()"):
+        for text in ("(" * 20000, ")" * 20000, "in 0; " * 3333, "in 0; " * 3333 + "in",
+                     "either " + "() or " * 3000 + "()", "in " + "0" * 19000, "in " + "9" * 19000, " " * 20000,
+                     "either (" + "in 1; " * 3000 + "in 1) or ()"):
             self.raises(BadText(0), read_program, text)
         self.assertLess(time.time() - began, 10)
 

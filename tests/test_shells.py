@@ -11,8 +11,8 @@ from roomways.shells import Shell
 from tests import retold
 from tests import retold_offices as told
 from tests import retold_rings
-from tests.support import (STRANGE, Case, door_by, door_house, drawn_door, drawn_house, drawn_names, drawn_way, holds_house,
-                           rebuilt, renamed, shape, small_house)
+from tests.support import (STRANGE, Case, door_by, door_house, drawn_door, drawn_house, drawn_names, drawn_way,
+                           holds_house, rebuilt, renamed, shape, small_house)
 
 SHORT = (("in", 0), ("out", 0))
 ONCE = (("in", 0), ("in", 1), ("out", 1), ("out", 0))
@@ -21,17 +21,18 @@ EVEN = ((("-", "even"), ("even", "-")), ((1,), (0,)))
 OVER = ((("-", "stand"), ("bow", "-")), ((1,), (0,)))
 CROSSED, NESTED = ((None, None), (ONCE, BACK)), ((EVEN, OVER), (ONCE, ONCE))
 OF_HOUSE = ("open", "text", "stuck", "bound", "gate", "numbers", "kept 0", "kept 4", "together 1 1", "together")
-OF_OFFICE = ("go 0", "go 4", "build 0 plain", "build 5 x", "lead 0 +0 -0", "lead 4 x", "undo", "standing", "inside", "entered",
-             "movers", "next 0", "next 4", "waits", "log")
-NO_LINES = ("", " ", "house", "opens", "open ", " open", "Open", "OPEN", "open\n", "\nopen", "go", "go ", "go 5", "go 9", "go 00",
-            "go 01", "go 0 ", "go  0", " go 0", "go 0\n", "go -1", "go 0 0", "goo 0", "go0", "GO 0", "Go 0", "build", "build ",
-            "build 0", "build 6", "build 6 plain", "build 7 plain", "build 00 plain", "build 0plain", "build  0 plain",
-            "build -1 plain", "build plain", "Build 0 plain", "lead", "lead ", "lead 0", "lead 5 +0 -0", "lead 00 +0 -0",
-            "lead  0 +0 -0", "lead +0 -0", "Lead 0 +0 -0", "undo ", "undo 1", "Undo", "standing ", "standing 0", "insides",
-            "inside ", "entered ", "movers ", "next", "next ", "next 5", "next 0 ", "next  0", "next 00", "next 0 1", "Next 0",
-            "waits ", "wait", "log ", "logs", "text ", "Text", "stuck ", "never", "bound ", "bounds", "gate ", "gates", "numbers ",
-            "number", "kept", "kept ", "kept 5", "kept 9", "kept 00", "kept 0 ", "kept  0", "kept 0 0", "Kept 0", "together",
-            "Together 1 1", "House plain\nway +0 -0", "house\n", "houseplain", "go 10", "go " + "0" * 19000, "go " + "9" * 19000,
+OF_OFFICE = ("go 0", "go 4", "build 0 plain", "build 5 x", "lead 0 +0 -0", "lead 4 x", "undo", "standing", "inside",
+             "entered", "movers", "next 0", "next 4", "waits", "log")
+NO_LINES = ("", " ", "house", "opens", "open ", " open", "Open", "OPEN", "open\n", "\nopen", "go", "go ", "go 5",
+            "go 9", "go 00", "go 01", "go 0 ", "go  0", " go 0", "go 0\n", "go -1", "go 0 0", "goo 0", "go0", "GO 0",
+            "Go 0", "build", "build ", "build 0", "build 6", "build 6 plain", "build 7 plain", "build 00 plain",
+            "build 0plain", "build  0 plain", "build -1 plain", "build plain", "Build 0 plain", "lead", "lead ",
+            "lead 0", "lead 5 +0 -0", "lead 00 +0 -0", "lead  0 +0 -0", "lead +0 -0", "Lead 0 +0 -0", "undo ",
+            "undo 1", "Undo", "standing ", "standing 0", "insides", "inside ", "entered ", "movers ", "next", "next ",
+            "next 5", "next 0 ", "next  0", "next 00", "next 0 1", "Next 0", "waits ", "wait", "log ", "logs", "text ",
+            "Text", "stuck ", "never", "bound ", "bounds", "gate ", "gates", "numbers ", "number", "kept", "kept ",
+            "kept 5", "kept 9", "kept 00", "kept 0 ", "kept  0", "kept 0 0", "Kept 0", "together", "Together 1 1",
+            "House plain\nway +0 -0", "house\n", "houseplain", "go 10", "go " + "0" * 19000, "go " + "9" * 19000,
             "kept " + "1" * 19000, "build " + "0" * 19000 + " plain", "next " + "4" * 5000, "x" * 20000)
 WHOLE = ("standing", "inside", "entered", "movers", "waits", "log", "text", "next 0", "next 1", "stuck")
 
@@ -97,14 +98,16 @@ class Lines(ShellCase):
             self.unchanged("what", value)
 
     def test_house(self):
-        for house in (CROSSED, NESTED, known("table", 5), ((None,), (SHORT,)), known("level", 4), ((None,) * 6, (ONCE,) * 5)):
+        for house in (CROSSED, NESTED, known("table", 5), ((None,), (SHORT,)), known("level", 4),
+                      ((None,) * 6, (ONCE,) * 5)):
             self.take(house)
             self.answers(house_text(house), "text")
             self.answers("rest" + ", rest" * (len(house[1]) - 1), "standing") if house[0][0] is None else None
         self.take(CROSSED)
         self.answers("version 1", "go 0")
-        for text, answer in (("", "BadText"), ("plain", "BadHouse"), ("plain\n", "BadText"), ("plain\nway +0 -1", "BadHouse"),
-                             ("way +0 -0", "BadHouse"), (" " + house_text(CROSSED), "BadText"), ("Plain\nway +0 -0", "BadText"),
+        for text, answer in (("", "BadText"), ("plain", "BadHouse"), ("plain\n", "BadText"),
+                             ("plain\nway +0 -1", "BadHouse"), ("way +0 -0", "BadHouse"),
+                             (" " + house_text(CROSSED), "BadText"), ("Plain\nway +0 -0", "BadText"),
                              (house_text(CROSSED) + "\n", "BadText"), ("plain\nway +0 -0\nplain", "BadText"),
                              ("plain\ndoor -s b- 1 0\nway +0 -0", "BadHouse"), ("plain\nway +0 +1 -1 -0", "BadHouse")):
             self.unchanged("error " + answer, "house " + text)
@@ -133,13 +136,13 @@ class Lines(ShellCase):
     def test_texts_of_no_room_and_no_way(self):
         self.take(CROSSED)
         for text in ("", " ", "plain ", " plain", "Plain", "plain\n", "door", "door ", "door -e b- 1 0", "door -s b- 1",
-                     "door -s b- 0 1", "door -s b- 1 0 ", "door  -s b- 1 0", "door -s b- 1 1", "door - 0", "door -- -- 1 0",
-                     "way +0 -0", "+0 -0", "door " + "-" * 9000 + " " + "1" * 9000,
+                     "door -s b- 0 1", "door -s b- 1 0 ", "door  -s b- 1 0", "door -s b- 1 1", "door - 0",
+                     "door -- -- 1 0", "way +0 -0", "+0 -0", "door " + "-" * 9000 + " " + "1" * 9000,
                      "door -sssss s-ssss ss-sss sss-ss ssss-s sssss- 12345 02345 01345 01245 01235 01234"):
             self.unchanged("error BadText", "build 0 " + text)
             self.unchanged("error BadText", "build 5 " + text)
-        for text in ("", " ", "+0", "+0 -0 ", " +0 -0", "+0  -0", "+0 -1", "-0 +0", "+6 -6", "+0 +0 -0 -0", "way +0 -0", "plain",
-                     "+0 -0\n", "0 0", "+0 -0" + " +0 -0" * 12, "+" * 19000):
+        for text in ("", " ", "+0", "+0 -0 ", " +0 -0", "+0  -0", "+0 -1", "-0 +0", "+6 -6", "+0 +0 -0 -0",
+                     "way +0 -0", "plain", "+0 -0\n", "0 0", "+0 -0" + " +0 -0" * 12, "+" * 19000):
             self.unchanged("error BadText", "lead 0 " + text)
             self.unchanged("error BadText", "lead 4 " + text)
         # These are texts of rooms and ways of other houses: the office refuses them.
@@ -176,8 +179,8 @@ class Lines(ShellCase):
         self.take(known("table", 5))
         for hand in (0, 1, 2, 3, 4) * 2:
             self.says(f"go {hand}")
-        for line, answer in (("inside", "0 1 2 3 4"), ("waits", "0 1 1; 1 2 2; 2 3 3; 3 4 4; 4 0 0"), ("movers", "nobody"),
-                             ("entered", "0 0; 1 1; 2 2; 3 3; 4 4"), ("next 4", "barred")):
+        for line, answer in (("inside", "0 1 2 3 4"), ("waits", "0 1 1; 1 2 2; 2 3 3; 3 4 4; 4 0 0"),
+                             ("movers", "nobody"), ("entered", "0 0; 1 1; 2 2; 3 3; 4 4"), ("next 4", "barred")):
             self.answers(answer, line)
 
     def test_of_the_house(self):
@@ -185,9 +188,10 @@ class Lines(ShellCase):
         for house, line, answer in (
                 (CROSSED, "stuck", "hold 0 1 1 1"), (CROSSED, "gate", "0 1"), (CROSSED, "numbers", "none"),
                 (CROSSED, "bound", "error Unfit"), (CROSSED, "kept 0", "error Unfit"), (NESTED, "stuck", "never"),
-                (NESTED, "bound", "14"), (NESTED, "gate", "nobody"), (NESTED, "numbers", "0 1"), (NESTED, "kept 0", "no"),
-                (NESTED, "kept 1", "no"), (NESTED, "kept 2", "no hand"), (NESTED, "kept 4", "no hand"), (row, "kept 1", "yes"),
-                (meek, "stuck", "door 0 0 0 1 0"), (meek, "kept 4", "no hand"), (meek, "kept 1", "error Unfit"),
+                (NESTED, "bound", "14"), (NESTED, "gate", "nobody"), (NESTED, "numbers", "0 1"),
+                (NESTED, "kept 0", "no"), (NESTED, "kept 1", "no"), (NESTED, "kept 2", "no hand"),
+                (NESTED, "kept 4", "no hand"), (row, "kept 1", "yes"), (meek, "stuck", "door 0 0 0 1 0"),
+                (meek, "kept 4", "no hand"), (meek, "kept 1", "error Unfit"),
                 (known("proud", 2), "stuck", "door 0 0 0 1 0"), (known("table", 3), "stuck", "hold 0 1 1 1 2 1"),
                 (known("table", 3), "gate", "0 1"), (((None,), (SHORT,)), "numbers", "0"), (row, "bound", "8")):
             self.take(house, False)
@@ -204,11 +208,12 @@ class Lines(ShellCase):
 
     def test_together(self):
         self.take(CROSSED, False)
-        for text, answer in (("1 1", "yes"), ("2 1", "no"), ("- 3", "yes"), ("- -", "yes"), ("0 0", "yes"), ("3 3", "no"),
-                             ("3 -", "yes"), ("2 2", "no")):
+        for text, answer in (("1 1", "yes"), ("2 1", "no"), ("- 3", "yes"), ("- -", "yes"), ("0 0", "yes"),
+                             ("3 3", "no"), ("3 -", "yes"), ("2 2", "no")):
             self.answers(answer, "together " + text)
-        for text in ("1", "", " ", "1 1 1", "01 1", "1 01", "00 0", "4 1", "1 4", "-1 1", "+1 1", "1  1", " 1 1", "1 1 ", "1,1", "x 1",
-                     "- ", " -", "-- 1", "1 -1", "1 1\n", "100 1", "1" * 19000, "1 " + "2" * 9000, "- " * 9000, "None 1", "1\n1"):
+        for text in ("1", "", " ", "1 1 1", "01 1", "1 01", "00 0", "4 1", "1 4", "-1 1", "+1 1", "1  1", " 1 1",
+                     "1 1 ", "1,1", "x 1", "- ", " -", "-- 1", "1 -1", "1 1\n", "100 1", "1" * 19000,
+                     "1 " + "2" * 9000, "- " * 9000, "None 1", "1\n1"):
             self.answers("no choice", "together " + text)
         long = ((None,) * 2, (SHORT * 12, ONCE))
         self.take(long, False)
@@ -244,9 +249,11 @@ def drawn_line(draw, shell):
     if kind < 0.78:
         return "together " + " ".join(draw.choice(["-", str(draw.randrange(len(way)))]) for way in house[1])
     if kind < 0.96:
-        return draw.choice(("undo", "standing", "inside", "entered", "movers", "waits", "log", "text", "stuck", "bound", "gate",
-                            "numbers", "next 0", "next 1", "next 4", "kept 0", "kept 1", "go 4", "build 5 plain"))
-    return draw.choice(("open", "house x", "house plain\nway +0 -0", "nothing", "go 7", "build 0 y", "lead 0 y", "together 1"))
+        return draw.choice(("undo", "standing", "inside", "entered", "movers", "waits", "log", "text", "stuck",
+                            "bound", "gate", "numbers", "next 0", "next 1", "next 4", "kept 0", "kept 1", "go 4",
+                            "build 5 plain"))
+    return draw.choice(("open", "house x", "house plain\nway +0 -0", "nothing", "go 7", "build 0 y", "lead 0 y",
+                        "together 1"))
 
 
 class Drawn(ShellCase):

@@ -87,7 +87,8 @@ class Supplies(Case):
         for kinds, limits, many in (
                 (twenty, (None,) * 4, 400), (twenty + (one_more,), (None,) * 5, 401),
                 (twenty + (one_more,), (None,) * 4 + (2,), 401), (twenty + (one_more,), (None,) * 4 + (1,), 400),
-                (twenty + (one_more,), (1,) * 5, 400), ((stay(0, 1, 9),) + twenty[1:3] + (stay(1, 0, 11),), (2,) * 4, 399),
+                (twenty + (one_more,), (1,) * 5, 400), ((stay(0, 1, 9),) + twenty[1:3] + (stay(1, 0, 11),), (2,) * 4,
+                                                        399),
                 (twenty[:3] + (stay(1, 0, 11),), (None,) * 4, 420)):
             self.assertEqual(many, len(told.supply_rings_to_be(4, kinds, limits)))
             if many > 400:
@@ -244,12 +245,12 @@ class SupplyRingErrors(Case):
 
     def test_each_word(self):
         for value, wanted in (
-                (((0, 1), (1, 1)), None), (((1, 1), (0, 1)), "form"), (((0, 1),), "form"), (((0, 0), (1, 1)), ("hold", 0)),
-                (((0, 1), (1, 0)), ("hold", 0)), (((0, 1), (1, 2)), "form"), (None, "form"), ((), "form"),
-                (((0, 1), (0, 1)), "form"), ([(0, 1), (1, 1)], "form"), (((0, 1), [1, 1]), "form"),
-                (((0, 1), (1, True)), "form"), (((False, 1), (1, 1)), "form"), (((0, 1), (2, 1)), "form"),
-                (((0, 1), (1, 4)), "form"), (((0, 1), (1, -1)), "form"), (((0, 1), (1, 1), (1, 1)), "form"),
-                (((0, 1), (1, 1, 0)), "form"), (((-1, 1), (1, 1)), "form")):
+                (((0, 1), (1, 1)), None), (((1, 1), (0, 1)), "form"), (((0, 1),), "form"),
+                (((0, 0), (1, 1)), ("hold", 0)), (((0, 1), (1, 0)), ("hold", 0)), (((0, 1), (1, 2)), "form"),
+                (None, "form"), ((), "form"), (((0, 1), (0, 1)), "form"), ([(0, 1), (1, 1)], "form"),
+                (((0, 1), [1, 1]), "form"), (((0, 1), (1, True)), "form"), (((False, 1), (1, 1)), "form"),
+                (((0, 1), (2, 1)), "form"), (((0, 1), (1, 4)), "form"), (((0, 1), (1, -1)), "form"),
+                (((0, 1), (1, 1), (1, 1)), "form"), (((0, 1), (1, 1, 0)), "form"), (((-1, 1), (1, 1)), "form")):
             self.check(wanted, 2, (ONCE, BACK), FREE, value)
         self.check(("hold", 1), 3, (ONCE, SECOND), FREE, ((0, 1), (1, 1)))
         self.check(("twice", 2), 3, LED, FREE, ((0, 2), (1, 2)))
@@ -274,8 +275,8 @@ class SupplyRingErrors(Case):
     def test_least_kind_beyond_its_limit(self):
         whole = sum([(("in", k), ("in", (k + 1) % 4), ("out", (k + 1) % 4), ("out", k)) for k in range(4)], ())
         value = ((0, 1), (1, 5), (0, 9), (1, 13))
-        for limits, wanted in (((1, 1), ("limit", 0)), ((2, 1), ("limit", 1)), ((None, 1), ("limit", 1)), ((2, 2), None),
-                               ((1, 2), ("limit", 0)), ((1, None), ("limit", 0)), (FREE, None)):
+        for limits, wanted in (((1, 1), ("limit", 0)), ((2, 1), ("limit", 1)), ((None, 1), ("limit", 1)),
+                               ((2, 2), None), ((1, 2), ("limit", 0)), ((1, None), ("limit", 0)), (FREE, None)):
             self.check(wanted, 4, (whole, whole), limits, value)
             self.check(wanted, 4, (whole, whole, SHORT), limits + (1,), value)
 
@@ -315,7 +316,8 @@ class SupplyHouses(Case):
         self.tells(((None, None), (BACK, ONCE)), supply_house, 2, (ONCE, BACK), (1, 0))
         self.tells(((None,) * 6, (ONCE,)), supply_house, 6, (ONCE, BACK), (0,))
         self.tells(((None, None), (KNOT,) * 5), supply_house, 2, (KNOT,), (0,) * 5)
-        for hands, wanted in (((0,), None), ((0, 0), ("hold", ((0, 1), (1, 5)))), ((0, 0, 0), ("hold", ((0, 1), (1, 5))))):
+        for hands, wanted in (((0,), None), ((0, 0), ("hold", ((0, 1), (1, 5)))),
+                              ((0, 0, 0), ("hold", ((0, 1), (1, 5))))):
             self.assertEqual(wanted, stuck_ring(supply_house(2, (KNOT,), hands)))
 
     def test_drawn(self):

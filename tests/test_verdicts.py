@@ -12,8 +12,8 @@ from roomways.stalls import stall, stall_error
 from roomways.stuckness import is_never_stuck, stuck_ring
 from roomways.verdicts import verdict, verdict_error
 from tests import retold_stalls as told
-from tests.support import (STRANGE, Case, around, door_by, door_house, drawn_house, drawn_houses, drawn_names, holds_house,
-                           outcome, parts, renamed, shape, small_house, staying_house, variants)
+from tests.support import (STRANGE, Case, around, door_by, door_house, drawn_house, drawn_houses, drawn_names,
+                           holds_house, outcome, parts, renamed, shape, small_house, staying_house, variants)
 from tests.test_alls import drawn
 
 SHORT = (("in", 0), ("out", 0))
@@ -139,20 +139,25 @@ class VerdictErrors(Case):
     def test_each_word(self):
         jam, paper = ((0, 1, 0, 1), ()), never(GATE)
         for house, value, wanted in (
-                (CROSSED, ("stuck", jam), None), (GATE, ("never", paper), None), (CROSSED, jam, "form"), (GATE, paper, "form"),
-                (CROSSED, ["stuck", jam], "form"), (CROSSED, ("stuck",), "form"), (CROSSED, ("stuck", jam, None), "form"),
-                (CROSSED, ("Stuck", jam), "form"), (CROSSED, (True, jam), "form"), (CROSSED, ("", jam), "form"),
-                (CROSSED, (["stuck"], jam), "form"), (CROSSED, ("stall", jam), "form"), (GATE, ("paper", paper), "form"),
+                (CROSSED, ("stuck", jam), None), (GATE, ("never", paper), None), (CROSSED, jam, "form"),
+                (GATE, paper, "form"), (CROSSED, ["stuck", jam], "form"), (CROSSED, ("stuck",), "form"),
+                (CROSSED, ("stuck", jam, None), "form"), (CROSSED, ("Stuck", jam), "form"),
+                (CROSSED, (True, jam), "form"), (CROSSED, ("", jam), "form"), (CROSSED, (["stuck"], jam), "form"),
+                (CROSSED, ("stall", jam), "form"), (GATE, ("paper", paper), "form"),
                 (CROSSED, ("stuck", None), ("stall", "form")), (CROSSED, ("stuck", ((), ())), ("stall", "rest")),
                 (CROSSED, ("stuck", (jam[0] + (0,), ())), ("stall", ("run", 4))),
                 (CROSSED, ("stuck", (jam[0][:3], ())), ("stall", ("hand", 0))),
                 (CROSSED, ("stuck", (jam[0], (0,))), ("stall", ("round", 0))),
                 (MEEK, ("stuck", ((0, 0, 1, 1), (0, 1, 0))), ("stall", "back")),
                 (MEEK, ("stuck", ((0, 0, 0), (0,))), ("stall", ("word", 0))),
-                (CROSSED, ("never", ((), ((), ()))), ("paper", ("holds", 0))), (CROSSED, ("never", jam), ("paper", "form")),
-                (PROUD, ("never", ((), ((),))), ("paper", ("doors", 0, 0))), (GATE, ("never", None), ("paper", "form")),
-                (GATE, ("never", (paper[0] * 2, paper[1])), ("paper", ("holds", 1))),
-                (RANKED, ("never", ((), ((None,),))), ("paper", ("doors", 0, 0))), (RANKED, ("never", ((), ((),))), None)):
+                (CROSSED, ("never", ((), ((), ()))), ("paper", ("holds", 0))),
+                (CROSSED, ("never", jam), ("paper", "form")),
+                (PROUD, ("never", ((), ((),))), ("paper", ("doors", 0, 0))),
+                (GATE, ("never", None), ("paper", "form")), (GATE, ("never", (paper[0] * 2, paper[1])),
+                                                             ("paper", ("holds", 1))),
+                                                             (RANKED, ("never", ((), ((None,),))),
+                                                              ("paper", ("doors", 0, 0))),
+                                                              (RANKED, ("never", ((), ((),))), None)):
             self.tells(wanted, verdict_error, house, value)
             self.assertEqual(wanted, told_error(house, value))
 
