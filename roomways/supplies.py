@@ -71,8 +71,8 @@ def supply_rings_to_be(kinds, limits):
     """Return all tuples that are supply rings but for coming together, the shorter ones first, then the lesser ones."""
     stands = stands_of(kinds)
     rings = []
-    # In a ring a place can be exchanged for any other one at which the same is held and wished: so a ring of keys is
-    # many rings of pairs, and where these are too many few paths were gone in vain.
+    # Places at which the same is held and wished stand for one another in each ring: so, going by keys, few paths lead
+    # nowhere, however many places there are.
     for key in stands:
         for row in rings_from(stands, (key,), key[0]):
             add_rings(rings, [stands[other] for other in row], limits, ())
