@@ -103,6 +103,15 @@ class Interface(unittest.TestCase):
                 self.assertEqual(PARAMETERS[name], code.co_varnames[:code.co_argcount])
                 self.assertIsNone(function.__defaults__)
 
+    def test_each_class_is_defined_in_its_file(self):
+        for module, name, methods in (("offices", "Office", "inside waits entered go build lead undo twin __eq__ __ne__"),
+                                      ("shells", "Shell", "say")):
+            made = getattr(importlib.import_module("roomways." + module), name)
+            self.assertEqual("roomways." + module, made.__module__)
+            self.assertEqual((object,), made.__bases__)
+            for method in methods.split() + ["__init__"]:
+                self.assertIn(method, vars(made))
+
     def test_each_error_is_defined_in_its_file(self):
         for name in ["WayError"] + list(FIELDS):
             self.assertEqual("roomways.errors", getattr(errors, name).__module__)
